@@ -1,0 +1,386 @@
+"""../shared/LANGUAGE.md: what of it can be looked up in the text of the package."""
+
+import ast
+import builtins
+import io
+import re
+import tokenize
+import unittest
+from pathlib import Path
+
+PACKAGE = Path(__file__).resolve().parent.parent / "unknowntakes"
+FILES = {path.stem: path.read_text(encoding="utf-8") for path in sorted(PACKAGE.glob("*.py"))}
+TREES = {stem: ast.parse(text) for stem, text in FILES.items()}
+
+ALLOWED_BUILTINS = set("""
+    len range enumerate zip min max sum abs sorted reversed int str bool bytes list tuple dict set frozenset
+    isinstance ord repr any all divmod pow super property staticmethod classmethod iter next type getattr hasattr
+    setattr map Exception ValueError TypeError KeyError IndexError LookupError ZeroDivisionError ArithmeticError
+    OverflowError RuntimeError NotImplementedError AttributeError StopIteration NotImplemented object""".split())
+
+BUILTIN_METHODS = set("""
+    append clear copy count endswith extend find get index insert isalnum isalpha isdigit islower isspace isupper
+    items join keys ljust lower lstrip partition pop remove replace reverse rfind rjust rpartition rsplit rstrip
+    setdefault split splitlines startswith strip update upper values zfill bit_length title capitalize swapcase
+    casefold center expandtabs removeprefix removesuffix rindex isascii isdecimal isnumeric istitle isidentifier
+    isprintable translate add discard sort format __init__""".split())
+
+DUNDERS = set("""
+    __init__ __eq__ __repr__ __str__ __len__ __enter__ __exit__ __call__ __iter__ __lt__ __le__ __gt__ __ge__ __ne__
+    __add__ __sub__ __mul__ __floordiv__ __mod__ __pow__ __and__ __or__ __xor__ __lshift__ __rshift__ __neg__ __pos__
+    __invert__ __abs__ __bool__ __contains__ __getitem__ __setitem__""".split())
+
+STATEMENTS = (
+    ast.Assign, ast.AugAssign, ast.If, ast.While, ast.For, ast.Return, ast.Break, ast.Continue, ast.Pass, ast.Raise,
+    ast.Assert, ast.Delete, ast.Nonlocal, ast.Match, ast.With, ast.Try, ast.Expr, ast.FunctionDef, ast.ClassDef,
+    ast.ImportFrom)
+
+NOWHERE = set("register mro elements open input law version_info with_traceback add_note".split())
+FRAMES = re.compile(r"(f|tb|co|gi|cr|ag)_[a-z]+")
+NOT_NAMES = set("""
+    attrgetter breakpoint builtins compile copyright credits delattr dir eval exec exit gc getattr globals hasattr
+    help id importlib license locals methodcaller os quit setattr super type vars sys __name__""".split())
+NOT_WORDS = re.compile(
+    r"\b(type|typing|typing_extensions|enum|Enum|IntEnum|StrEnum|Flag|IntFlag|Generic|Protocol|ABC|ABCMeta"
+    r"|namedtuple|NamedTuple|TypedDict|TYPE_CHECKING|abstractmethod)\b|dataclass|overload|contextmanager")
+BAD_STARTS = ("_wall", "_pe_", "_dcw_", "_enum_", "_cm_", "_twin_re_", "_lay_", "_law_", "_stub_", "_sre",
+              "_WallAttr")
+BAD_NAMES = re.compile(r"(_cold|_tuplegetter|_outside|_record|_written_out|_member_names)[0-9_]*")
+
+
+def tokens_of(stem):
+    return list(tokenize.generate_tokens(io.StringIO(FILES[stem]).readline))
+
+
+def nodes(kind):
+    for stem, tree in TREES.items():
+        for node in ast.walk(tree):
+            if isinstance(node, kind):
+                yield stem, node
+
+
+def functions():
+    yield from nodes((ast.FunctionDef, ast.AsyncFunctionDef))
+
+
+def parameters(function):
+    spec = function.args
+    found = [*spec.posonlyargs, *spec.args, *spec.kwonlyargs]
+    return [arg.arg for arg in [*found, *[arg for arg in (spec.vararg, spec.kwarg) if arg]]]
+
+
+def bound_names(function):
+    """Parameters, local variables and nested functions."""
+    names = set(parameters(function))
+    for node in ast.walk(function):
+        if isinstance(node, ast.Name) and isinstance(node.ctx, ast.Store):
+            names.add(node.id)
+        if isinstance(node, ast.FunctionDef) and node is not function:
+            names.add(node.name)
+    return names
+
+
+def module_names(tree):
+    names = []
+    for node in tree.body:
+        if isinstance(node, ast.ImportFrom):
+            names += [alias.name for alias in node.names]
+        elif isinstance(node, (ast.FunctionDef, ast.ClassDef)):
+            names.append(node.name)
+        elif isinstance(node, ast.Assign):
+            names += [target.id for target in node.targets]
+    return names
+
+
+def docstrings():
+    found = set()
+    for _, node in nodes((ast.Module, ast.FunctionDef, ast.ClassDef)):
+        if node.body and isinstance(node.body[0], ast.Expr) and isinstance(node.body[0].value, ast.Constant):
+            found.add(id(node.body[0].value))
+    return found
+
+
+class Files(unittest.TestCase):
+    def test_folder(self):
+        for path in PACKAGE.rglob("*"):
+            if "__pycache__" not in path.parts:
+                self.assertTrue(path.is_file() and path.suffix == ".py", path)
+                self.assertRegex(path.stem, r"^(__init__|[a-z][a-z0-9_]*)$")
+                self.assertNotIn(path.stem, dir(builtins))
+                self.assertNotRegex(path.stem, r"^(law_.*|tests?|testing|test_.*|site|conftest)$")
+                self.assertIsNone(NOT_WORDS.fullmatch(path.stem))
+        self.assertLessEqual(len(FILES), 100)
+        self.assertIn("__init__", FILES)
+
+    def test_characters(self):
+        for stem, text in FILES.items():
+            bad = {sign for sign in text if sign != "\n" and not " " <= sign <= "~"}
+            self.assertEqual(bad, set(), stem)
+
+    def test_sizes(self):
+        for stem, text in FILES.items():
+            lines = text.split("\n")
+            self.assertLessEqual(len(lines), 399, stem)
+            self.assertLessEqual(max(map(len, lines)), 120, stem)
+        for stem, node in functions():
+            self.assertLessEqual(node.end_lineno - node.lineno + 1, 40, f"{stem}.{node.name}")
+
+
+class Imports(unittest.TestCase):
+    def test_form(self):
+        for stem, node in nodes((ast.Import, ast.ImportFrom)):
+            self.assertIsInstance(node, ast.ImportFrom, stem)
+            self.assertEqual(node.level, 0)
+            self.assertRegex(node.module, r"^unknowntakes\.[a-z_]+$")
+            module = node.module.split(".")[1]
+            own = [one.name for one in TREES[module].body if isinstance(one, (ast.FunctionDef, ast.ClassDef))]
+            own += [one.targets[0].id for one in TREES[module].body if isinstance(one, ast.Assign)]
+            for alias in node.names:
+                self.assertIsNone(alias.asname)
+                self.assertIn(alias.name, own, f"{stem} imports {alias.name} from elsewhere")
+
+    def test_at_the_top(self):
+        for stem, tree in TREES.items():
+            kinds = [isinstance(node, ast.ImportFrom) for node in tree.body if not isinstance(node, ast.Expr)]
+            self.assertEqual(kinds, sorted(kinds, reverse=True), stem)
+            inner = sum(isinstance(node, ast.ImportFrom) for node in ast.walk(tree))
+            self.assertEqual(inner, sum(kinds), stem)
+
+    def test_each_is_used(self):
+        for stem, tree in TREES.items():
+            read = {node.id for node in ast.walk(tree) if isinstance(node, ast.Name)}
+            for node in tree.body:
+                if isinstance(node, ast.ImportFrom):
+                    self.assertLessEqual({alias.name for alias in node.names}, read, stem)
+
+    def test_no_two_files_import_from_each_other(self):
+        reached = {stem: {node.module.split(".")[1] for node in tree.body if isinstance(node, ast.ImportFrom)}
+                   for stem, tree in TREES.items()}
+        for _ in TREES:
+            reached = {stem: names.union(*[reached[name] for name in names]) for stem, names in reached.items()}
+        for stem, names in reached.items():
+            self.assertNotIn(stem, names)
+        self.assertEqual(reached["__init__"], set())
+
+
+class Names(unittest.TestCase):
+    def all_names(self):
+        for stem, node in nodes(ast.AST):
+            if isinstance(node, ast.Name):
+                yield stem, node.id, "read" if isinstance(node.ctx, ast.Load) else "bound"
+            elif isinstance(node, ast.Attribute):
+                yield stem, node.attr, "attribute"
+            elif isinstance(node, (ast.FunctionDef, ast.ClassDef)):
+                yield stem, node.name, "bound"
+            elif isinstance(node, ast.arg):
+                yield stem, node.arg, "bound"
+            elif isinstance(node, ast.keyword) and node.arg:
+                yield stem, node.arg, "keyword"
+
+    def test_plain(self):
+        for stem, name, kind in self.all_names():
+            if name != "_" and name not in DUNDERS:
+                self.assertRegex(name, r"^_?[A-Za-z][A-Za-z0-9_]*$", stem)
+            self.assertFalse(name.startswith(BAD_STARTS) or BAD_NAMES.fullmatch(name), name)
+            self.assertNotIn(name, NOWHERE, stem)
+            self.assertIsNone(FRAMES.fullmatch(name), name)
+            if kind == "bound":
+                self.assertNotIn(name, NOT_NAMES, stem)
+            self.assertFalse(kind == "read" and name == "_", stem)
+
+    def test_words(self):
+        for stem in FILES:
+            for token in tokens_of(stem):
+                if token.type in (tokenize.NAME, tokenize.STRING) and not token.string.startswith('"""'):
+                    self.assertIsNone(NOT_WORDS.search(token.string), token)
+            for word in ("(type)", "Meta", "metaclass=", "_wall", "_WallAttr"):
+                self.assertNotIn(word, FILES[stem])
+
+    def test_no_builtin_has_another_meaning(self):
+        for stem, name, kind in self.all_names():
+            if kind == "bound" and name not in DUNDERS:
+                self.assertNotIn(name, set(dir(builtins)) - {"_"}, stem)
+
+    def test_no_name_of_an_import_or_class_inside(self):
+        for stem, node in functions():
+            tree = TREES[stem]
+            taken = {one.name for one in tree.body if isinstance(one, ast.ClassDef)}
+            for one in tree.body:
+                if isinstance(one, ast.ImportFrom):
+                    taken |= {alias.name for alias in one.names}
+            self.assertEqual(bound_names(node) & taken, set(), f"{stem}.{node.name}")
+
+    def test_one_binding_for_each_name(self):
+        for stem, tree in TREES.items():
+            names = module_names(tree)
+            self.assertEqual(len(names), len(set(names)), stem)
+
+    def test_builtins_that_are_read(self):
+        for stem, tree in TREES.items():
+            own = set(module_names(tree))
+            for node in ast.walk(tree):
+                if isinstance(node, ast.FunctionDef):
+                    own |= bound_names(node)
+            for node in ast.walk(tree):
+                if isinstance(node, ast.Name) and isinstance(node.ctx, ast.Load) and node.id not in own:
+                    self.assertIn(node.id, ALLOWED_BUILTINS, stem)
+
+    def test_own_methods_and_attributes(self):
+        taken = set()
+        for worth in ("", 0, [], (), {}, set(), b""):
+            taken |= {name for name in dir(worth) if not name.startswith("__")}
+        allowed = set("count index title find get join lower upper split strip copy add".split())
+        for stem, node in nodes(ast.Attribute):
+            if isinstance(node.ctx, ast.Store):
+                self.assertNotIn(node.attr, taken - allowed, stem)
+        for stem, node in nodes(ast.ClassDef):
+            for method in node.body:
+                if isinstance(method, ast.FunctionDef):
+                    self.assertNotIn(method.name, taken - BUILTIN_METHODS, stem)
+
+
+class Code(unittest.TestCase):
+    def test_module_level(self):
+        for stem, tree in TREES.items():
+            for node in tree.body:
+                kinds = (ast.ImportFrom, ast.FunctionDef, ast.ClassDef, ast.Assign, ast.Expr)
+                self.assertIsInstance(node, kinds, stem)
+                if isinstance(node, ast.Expr):
+                    self.assertIsInstance(node.value, ast.Constant)
+                if isinstance(node, ast.Assign):
+                    self.assertEqual(len(node.targets), 1)
+                    self.assertIsInstance(node.targets[0], ast.Name)
+
+    def test_statements(self):
+        for stem, node in nodes(ast.stmt):
+            self.assertIsInstance(node, STATEMENTS, f"{stem}:{node.lineno}")
+            if isinstance(node, ast.Expr):
+                self.assertIsInstance(node.value, (ast.Call, ast.Constant), f"{stem}:{node.lineno}")
+
+    def test_classes_and_decorators(self):
+        for stem, node in nodes(ast.ClassDef):
+            self.assertEqual((node.decorator_list, node.keywords), ([], []))
+            names = []
+            for method in node.body:
+                if isinstance(method, ast.Expr):
+                    self.assertIsInstance(method.value, ast.Constant)
+                else:
+                    self.assertIsInstance(method, ast.FunctionDef, stem)
+                    names.append(method.name)
+                    if method.name.startswith("__"):
+                        self.assertIn(method.name, DUNDERS)
+                        self.assertEqual(method.decorator_list, [])
+                    for decorator in method.decorator_list:
+                        self.assertIn(decorator.id, ("property", "staticmethod"))
+            self.assertEqual(len(names), len(set(names)), node.name)
+            if "__getitem__" in names:
+                self.assertIn("__iter__", names)
+        for stem, tree in TREES.items():
+            for node in tree.body:
+                if isinstance(node, ast.FunctionDef):
+                    self.assertEqual(node.decorator_list, [], stem)
+
+    def test_no_name_is_a_method_and_an_attribute(self):
+        for stem, node in nodes(ast.ClassDef):
+            methods = {one.name for one in node.body if isinstance(one, ast.FunctionDef)}
+            stored = {one.attr for one in ast.walk(node)
+                      if isinstance(one, ast.Attribute) and isinstance(one.ctx, ast.Store)}
+            self.assertEqual(methods & stored, set(), stem)
+
+    def test_attributes_that_are_read(self):
+        known = set(BUILTIN_METHODS)
+        for _, node in nodes((ast.Attribute, ast.ClassDef)):
+            if isinstance(node, ast.ClassDef):
+                known |= {one.name for one in node.body if isinstance(one, ast.FunctionDef)}
+            elif isinstance(node.ctx, ast.Store):
+                known.add(node.attr)
+        for stem, node in nodes(ast.Attribute):
+            self.assertIn(node.attr, known, stem)
+
+    def test_no_floats_and_no_true_division(self):
+        for stem, node in nodes((ast.Constant, ast.Div)):
+            self.assertFalse(isinstance(node, ast.Div), stem)
+            if isinstance(node, ast.Constant):
+                self.assertNotIsInstance(node.value, (float, complex))
+
+    def test_no_generator_expressions_where_classes_compare(self):
+        self.assertEqual([stem for stem, _ in nodes(ast.GeneratorExp)], [])
+
+    def test_sets_are_not_used(self):
+        self.assertEqual([stem for stem, _ in nodes((ast.Set, ast.SetComp))], [])
+
+    def test_is_stands_beside_plain_words(self):
+        for stem, node in nodes(ast.Compare):
+            for sign, side in zip(node.ops, node.comparators):
+                if isinstance(sign, (ast.Is, ast.IsNot)):
+                    self.assertTrue(isinstance(side, ast.Constant) and side.value in (None, True, False), stem)
+
+    def test_errors_are_made_on_the_spot(self):
+        for stem, node in nodes(ast.Raise):
+            self.assertIsInstance(node.exc, ast.Call, stem)
+            self.assertIsInstance(node.exc.func, ast.Name, stem)
+
+    def test_defaults_are_plain(self):
+        for stem, node in functions():
+            for worth in [*node.args.defaults, *[one for one in node.args.kw_defaults if one]]:
+                ast.literal_eval(worth)
+                self.assertFalse(any(isinstance(one, (ast.List, ast.Dict)) for one in ast.walk(worth)), stem)
+
+
+class Texts(unittest.TestCase):
+    def test_strings(self):
+        quiet = docstrings()
+        for stem, node in nodes(ast.Constant):
+            if isinstance(node.value, str):
+                if id(node) not in quiet:
+                    self.assertNotIn("%", node.value, stem)
+                self.assertFalse(node.value.endswith(("._", ".__")))
+                self.assertIsNone(re.fullmatch(r"__.*__", node.value, re.DOTALL))
+                self.assertIsNone(FRAMES.fullmatch(node.value))
+                if "{" in node.value or "}" in node.value or ("." in node.value and " " not in node.value):
+                    self.assertNotRegex(node.value, r"\b__")
+
+    def test_escapes(self):
+        for stem in FILES:
+            for token in tokens_of(stem):
+                if token.type == tokenize.STRING:
+                    self.assertLessEqual(set(re.findall(r"\\(.)", token.string, re.DOTALL)), set("nt\\'\""), stem)
+
+    def test_numbers_and_exponents(self):
+        for stem, node in nodes((ast.Constant, ast.BinOp)):
+            if isinstance(node, ast.BinOp) and isinstance(node.op, ast.Pow):
+                self.assertIsInstance(node.right, ast.Constant, stem)
+            elif isinstance(node, ast.Constant) and isinstance(node.value, int):
+                self.assertLess(abs(node.value), 10 ** 900)
+
+
+class Interface(unittest.TestCase):
+    LISTED = {
+        "sheets": {"Sheet": """chain with_fact without measured tight within read least __getitem__ __contains__
+                   __and__ __eq__ __ne__ __str__ __init__""".split()},
+        "families": {"Family": """least hull near within __or__ __and__ __sub__ __contains__ __eq__ __ne__ __bool__
+                     __init__""".split()},
+    }
+
+    def test_each_stands_in_its_file_and_class(self):
+        for stem, classes in self.LISTED.items():
+            found = {node.name: node for node in TREES[stem].body if isinstance(node, ast.ClassDef)}
+            for name, methods in classes.items():
+                own = {node.name for node in found[name].body if isinstance(node, ast.FunctionDef)}
+                self.assertLessEqual(set(methods), own)
+
+    def test_parameters(self):
+        wanted = {
+            ("sheets", "__init__"): ["self", "marks", "takes", "facts"], ("sheets", "chain"): ["self", "x", "y"],
+            ("sheets", "with_fact"): ["self", "x", "y", "c"], ("sheets", "without"): ["self", "index"],
+            ("sheets", "measured"): ["self", "mark", "number"], ("sheets", "tight"): ["self"],
+            ("sheets", "within"): ["self", "other"], ("sheets", "read"): ["text"],
+            ("families", "__init__"): ["self", "sheets"], ("families", "near"): ["self", "numbers", "fixed"],
+            ("families", "within"): ["self", "other"]}
+        found = {(stem, node.name): parameters(node) for stem, node in functions()}
+        for place, names in wanted.items():
+            self.assertEqual(found[place], names)
+
+
+if __name__ == "__main__":
+    unittest.main()

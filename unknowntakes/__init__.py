@@ -1,0 +1,1 @@
+"""Sound edits decided for all recordings."""
