@@ -1,6 +1,21 @@
-"""Slow or roundabout reckonings that the tests hold the program's answers against."""
+"""What the tests share: reckonings, slow or roundabout, to hold the program's answers against."""
 
+import unittest
 from itertools import product
+
+from unknowntakes.errors import TakesError
+
+
+class Case(unittest.TestCase):
+    def fails(self, kind, call, *args, **fields):
+        """The call raises exactly this kind with these fields."""
+        with self.assertRaises(TakesError, msg=repr(args)) as caught:
+            call(*args)
+        self.assertIs(type(caught.exception), kind, repr(args))
+        for name, worth in fields.items():
+            found = getattr(caught.exception, name)
+            self.assertEqual(found, worth, repr(args))
+            self.assertIs(type(found), type(worth))
 
 
 def keeps(marks, facts, numbers):

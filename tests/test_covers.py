@@ -50,6 +50,12 @@ class Pieces(unittest.TestCase):
         for order in (pieces, pieces[::-1]):
             self.assertEqual(sorted(slim(order)), sorted([square(0, 9), square(5, 12)]))
 
+    def test_slim_without_ends(self):
+        small = narrowed(free_bounds(2), [(0, 1, -50), (1, 0, 90)])
+        wide = narrowed(free_bounds(2), [(0, 1, -40)])
+        for order in ([small, wide], [wide, small]):
+            self.assertEqual(slim(order), [wide])
+
     def test_a_hole_leaves_four_wide_sides(self):
         whole, hole = square(0, 9), square(4, 5)
         left = left_over(whole, [needed_limits(hole)])

@@ -2,7 +2,8 @@
 
 import unittest
 
-from unknowntakes.errors import BadNumbers, TakesError, UnknownName, UnlikeMarks
+from oracles import Case
+from unknowntakes.errors import BadNumbers, UnknownName, UnlikeMarks
 from unknowntakes.families import Family
 from unknowntakes.sheets import Sheet
 
@@ -17,19 +18,12 @@ def between(low, high, mark="m"):
     return Sheet((mark,), (), tuple(facts))
 
 
-class Case(unittest.TestCase):
-    def fails(self, kind, call, *args, **fields):
-        with self.assertRaises(TakesError) as caught:
-            call(*args)
-        self.assertIs(type(caught.exception), kind)
-        for name, worth in fields.items():
-            self.assertEqual(getattr(caught.exception, name), worth)
-
+class Rows(Case):
     def rows(self, family, top=30):
         return [k for k in range(top) if (k,) in family]
 
 
-class Building(Case):
+class Building(Rows):
     def test_parts(self):
         one, two = between(1, 2), between(1, 2)
         family = Family(one, two, one)
@@ -56,7 +50,7 @@ class Building(Case):
         self.assertEqual(found, ((0,), (6,), 9, (4, (5,))))
 
 
-class Answers(Case):
+class Answers(Rows):
     def test_bool(self):
         self.assertIs(bool(Family()), False)
         self.assertIs(bool(Family(between(1, 1))), True)
@@ -114,7 +108,7 @@ class Answers(Case):
         self.assertEqual(Family(Sheet((), ())).hull, Sheet((), ()))
 
 
-class Near(Case):
+class Near(Rows):
     def test_distance(self):
         family = Family(between(2, 3), between(9, 12))
         answers = {-5: (7, (2,)), 0: (2, (2,)), 2: (0, (2,)), 3: (0, (3,)), 4: (1, (3,)), 6: (3, (3,)), 7: (2, (9,)),
@@ -190,7 +184,7 @@ class Near(Case):
         self.assertIsNone(gone.near((1, 2), fixed=("c",)))
 
 
-class Together(Case):
+class Together(Rows):
     def setUp(self):
         self.first = Family(between(2, 5), between(9, None))
         self.second = Family(between(4, 10), between(0, 0))

@@ -2,7 +2,8 @@
 
 import unittest
 
-from unknowntakes.errors import BadText, Contradiction, TakesError
+from oracles import Case
+from unknowntakes.errors import BadText, Contradiction
 from unknowntakes.sheets import Sheet
 
 
@@ -21,12 +22,9 @@ class Writing(unittest.TestCase):
         self.assertEqual(str(sheet), "marks: a\ntakes: a\na - zero <= 5\na - zero <= 5\na - zero <= 4\n")
 
 
-class Reading(unittest.TestCase):
+class Reading(Case):
     def bad(self, text, line):
-        with self.assertRaises(TakesError, msg=repr(text)) as caught:
-            Sheet.read(text)
-        self.assertIs(type(caught.exception), BadText, repr(text))
-        self.assertEqual(caught.exception.line, line, repr(text))
+        self.fails(BadText, Sheet.read, text, line=line)
 
     def test_static(self):
         self.assertIsInstance(vars(Sheet)["read"], staticmethod)

@@ -2,24 +2,14 @@
 
 import unittest
 
-from unknowntakes.errors import (
-    BadFact, BadMarks, BadTakes, Contradiction, TakesError, UnknownName, UnlikeMarks)
+from oracles import Case
+from unknowntakes.errors import BadFact, BadMarks, BadTakes, Contradiction, UnknownName, UnlikeMarks
 from unknowntakes.sheets import Sheet
 
 BIG = 10 ** 12
 
 
-class Case(unittest.TestCase):
-    def fails(self, kind, call, *args, **fields):
-        """The call raises exactly this kind with these fields."""
-        with self.assertRaises(TakesError) as caught:
-            call(*args)
-        self.assertIs(type(caught.exception), kind)
-        for name, worth in fields.items():
-            found = getattr(caught.exception, name)
-            self.assertEqual(found, worth)
-            self.assertIs(type(found), type(worth))
-
+class Rings(Case):
     def ring_of(self, call, *args):
         with self.assertRaises(Contradiction) as caught:
             call(*args)
@@ -36,7 +26,7 @@ class Case(unittest.TestCase):
         self.assertLess(sum(fact[2] for fact in ring), 0)
 
 
-class Building(Case):
+class Building(Rings):
     def test_fields(self):
         facts = (("A", "in", 3), ("in", "zero", 9))
         sheet = Sheet(("A", "in", "B"), ("B", "A"), facts)
@@ -121,7 +111,7 @@ class Building(Case):
         self.assertIsInstance(copy.facts, tuple)
 
 
-class Contradictions(Case):
+class Contradictions(Rings):
     def check(self, marks, facts):
         self.check_ring(self.ring_of(Sheet, marks, (), facts), marks, facts)
 
@@ -148,7 +138,7 @@ class Contradictions(Case):
         self.assertEqual(Sheet(marks, (), facts[:5] + (("f", "a", 51),))["f", "a"], 51)
 
 
-class Answers(Case):
+class Answers(Rings):
     def setUp(self):
         facts = (("in", "out", 0), ("out", "A", -2), ("A", "zero", 9))
         self.sheet = Sheet(("A", "in", "out"), ("A",), facts)
@@ -229,7 +219,7 @@ class Answers(Case):
             list(self.sheet)
 
 
-class Changes(Case):
+class Changes(Rings):
     def setUp(self):
         self.sheet = Sheet(("a", "b"), ("a",), (("a", "b", 2), ("b", "zero", 5)))
 
@@ -293,7 +283,7 @@ class Changes(Case):
             self.check_ring(ring, ("a", "b"), self.sheet.facts + more)
 
 
-class Together(Case):
+class Together(Rings):
     def test_facts_of_both(self):
         one, two, three = ("a", "b", 1), ("b", "a", 2), ("a", "zero", 9)
         first = Sheet(("a", "b"), ("b",), (one, one, two))
@@ -377,7 +367,7 @@ class Together(Case):
             self.assertIs(sheet != other, True)
 
 
-class Tight(Case):
+class Tight(Rings):
     def test_all_that_is_known(self):
         sheet = Sheet(("a", "b"), (), (("b", "a", -2), ("a", "zero", 7)))
         self.assertEqual(sheet.tight(), [
