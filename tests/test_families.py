@@ -212,6 +212,14 @@ class Together(Rows):
             for number in range(20):
                 self.assertIs((number,) in family, any((number,) in part for part in family.parts))
 
+    def test_parts_that_do_not_change_are_not_worked_out_again(self):
+        sheet = Sheet(("a", "b"), (), (("a", "b", 3), ("a", "b", 4), ("b", "zero", 9)))
+        other = sheet.with_fact("a", "zero", 2)
+        for family in (Family(sheet) | Family(sheet), Family(sheet) & Family(sheet), Family(sheet) | Family(other)):
+            self.assertEqual(len(family.parts), 1)
+            self.assertIs(family.parts[0], sheet)
+        self.assertIs((Family(sheet) & Family(other)).parts[0], other)
+
     def test_takes_are_kept(self):
         one = Family(Sheet(("a", "b"), ("b", "a"), (("a", "zero", 5),)))
         two = Family(Sheet(("a", "b"), ("b", "a"), (("b", "zero", 5),)))

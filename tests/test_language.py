@@ -287,6 +287,14 @@ class Code(unittest.TestCase):
                       if isinstance(one, ast.Attribute) and isinstance(one.ctx, ast.Store)}
             self.assertEqual(methods & stored, set(), stem)
 
+    def test_no_method_is_called_by_the_name_of_an_attribute(self):
+        # L5 and L18 ask this of what operators and properties run; here it holds of the whole package.
+        stored = {node.attr for _, node in nodes(ast.Attribute) if isinstance(node.ctx, ast.Store)}
+        self.assertLessEqual({"index", "name", "step", "line", "ring", "kind"}, stored)
+        for stem, node in nodes(ast.Call):
+            if isinstance(node.func, ast.Attribute):
+                self.assertNotIn(node.func.attr, stored, f"{stem}:{node.lineno}")
+
     def test_attributes_that_are_read(self):
         known = set(BUILTIN_METHODS)
         for _, node in nodes((ast.Attribute, ast.ClassDef)):

@@ -62,8 +62,7 @@ def split_off(piece, block):
 def smaller_pieces(piece, blocks):
     """The piece without one of the blocks, as a list of (piece, the blocks that remain)."""
     # The block with the fewest limits goes first: it leaves the fewest pieces.
-    lengths = [len(block) for block in blocks]
-    at = lengths.index(min(lengths))
+    _, at = min([(len(block), at) for at, block in enumerate(blocks)])
     others = blocks[:at] + blocks[at + 1:]
     outside = split_off(piece, blocks[at])
     if outside is None:

@@ -1,7 +1,7 @@
 """Families: sets of recordings, those of any of several sheets."""
 
-from unknowntakes.bounds import hull_bounds, needed_limits
-from unknowntakes.covers import common_pieces, is_covered, slim, without_blocks
+from unknowntakes.bounds import hull_bounds
+from unknowntakes.covers import common_pieces, is_covered, is_within_one, slim, without_blocks
 from unknowntakes.errors import BadNumbers, UnknownName
 from unknowntakes.nearest import distance_to, least_near
 from unknowntakes.sheets import Sheet, check_alike, sheet_of, tight_facts
@@ -28,21 +28,27 @@ def pieces_of(family):
 
 def blocks_of(family):
     """The limits of each part."""
-    return [needed_limits(part.bounds) for part in family.parts]
+    return [part.limits for part in family.parts]
 
 
-def family_of(family, pieces):
-    """The family of the pieces, with the marks and takes of this family, which has parts."""
+def family_of(family, other, pieces):
+    """The family of the pieces, with the marks and takes of this family, which has parts.
+
+    Parts of either family that are pieces themselves need not be worked out again.
+    """
     model = family.parts[0]
-    sheets = [sheet_of(model.marks, model.takes, piece) for piece in pieces]
+    sheets = []
+    for piece in pieces:
+        known = [part for part in (*family.parts, *other.parts) if part.bounds == piece]
+        sheets.append(known[0] if known else sheet_of(model.marks, model.takes, piece))
     return Family(*sheets)
 
 
 def has_all(family, other):
     """True if each recording of the other family is one of this one."""
-    blocks = blocks_of(family)
+    wide = pieces_of(family)
     for piece in pieces_of(other):
-        if not is_covered(piece, blocks):
+        if not is_within_one(piece, wide) and not is_covered(piece, blocks_of(family)):
             return False
     return True
 
@@ -120,19 +126,19 @@ class Family:
         check_together(self, other)
         if not self.parts or not other.parts:
             return self if self.parts else other
-        return family_of(self, slim(pieces_of(self) + pieces_of(other)))
+        return family_of(self, other, slim([*pieces_of(self), *pieces_of(other)]))
 
     def __and__(self, other):
         check_together(self, other)
         if not self.parts or not other.parts:
             return Family()
-        return family_of(self, common_pieces(pieces_of(self), blocks_of(other)))
+        return family_of(self, other, common_pieces(pieces_of(self), blocks_of(other)))
 
     def __sub__(self, other):
         check_together(self, other)
         if not self.parts or not other.parts:
             return self
-        return family_of(self, without_blocks(pieces_of(self), blocks_of(other)))
+        return family_of(self, other, without_blocks(pieces_of(self), blocks_of(other)))
 
     def within(self, other):
         """True if each recording is in the other family."""

@@ -1,6 +1,6 @@
 """Sheets: facts about how far marks can lie apart, and the recordings that keep to them."""
 
-from unknowntakes.bounds import fits, free_bounds, is_barred, least_numbers, lies_in, needed_limits, tightened
+from unknowntakes.bounds import fits, free_bounds, is_barred, is_kept, least_numbers, lies_in, needed_limits, tightened
 from unknowntakes.errors import BadFact, BadMarks, BadTakes, BadText, Contradiction, UnknownName, UnlikeMarks
 from unknowntakes.kinds import are_numbers, is_name, is_whole
 from unknowntakes.texts import check_lines, list_line, listed, number_of
@@ -9,6 +9,11 @@ from unknowntakes.texts import check_lines, list_line, listed, number_of
 def names_of(marks):
     """What a fact can speak of; a name's place here is its spot in the bounds."""
     return ("zero",) + marks
+
+
+def spots_of(marks):
+    """The spot of each name in the bounds."""
+    return {name: spot for spot, name in enumerate(names_of(marks))}
 
 
 def first_bad_mark(marks):
@@ -70,9 +75,8 @@ def is_straight(fact, ahead):
 
 def chain_of(marks, facts, bounds, x, y):
     """A chain of these facts, which make the bounds, that shows the greatest x - y there is."""
-    names = names_of(marks)
-    goal = names.index(y)
-    ahead = {name: row[goal] for name, row in zip(names, bounds)}
+    goal = spots_of(marks)[y]
+    ahead = {name: row[goal] for name, row in zip(names_of(marks), bounds)}
     chains = {x: []}
     # Each name gets one chain, so rings whose numbers add up to 0 lead nowhere.
     while y not in chains:
@@ -82,18 +86,19 @@ def chain_of(marks, facts, bounds, x, y):
     return chains[y]
 
 
-def bounds_of(marks, facts):
-    """The bounds that the facts make; Contradiction if there is no recording."""
-    names = names_of(marks)
-    bounds = free_bounds(len(marks))
-    for at, fact in enumerate(facts):
+def bounds_with(marks, facts, bounds, more):
+    """The bounds that these facts make, with more facts; Contradiction if no recording is left."""
+    spots = spots_of(marks)
+    closer = bounds
+    for at, fact in enumerate(more):
         x, y, number = fact
-        one, two = names.index(x), names.index(y)
-        if is_barred(bounds, one, two, number):
-            back = chain_of(marks, facts[:at], bounds, y, x)
+        one, two = spots[x], spots[y]
+        if is_barred(closer, one, two, number):
+            back = chain_of(marks, (*facts, *more[:at]), closer, y, x)
             raise Contradiction((fact, *back))
-        bounds = tightened(bounds, one, two, number)
-    return bounds
+        if not is_kept(closer, one, two, number):
+            closer = tightened(closer, one, two, number)
+    return closer
 
 
 def tight_facts(marks, bounds):
@@ -107,11 +112,27 @@ def tight_facts(marks, bounds):
     return facts
 
 
+def sheet_made(marks, takes, facts, bounds):
+    """The sheet of these parts, which are good, and of the bounds that the facts make."""
+    made = Sheet((), ())
+    made.marks = marks
+    made.takes = takes
+    made.facts = facts
+    made.bounds = bounds
+    return made
+
+
 def sheet_of(marks, takes, bounds):
     """The sheet with these bounds, with no more facts than it needs."""
     names = names_of(marks)
     facts = [(names[x], names[y], number) for x, y, number in needed_limits(bounds)]
-    return Sheet(marks, takes, tuple(facts))
+    return sheet_made(marks, takes, tuple(facts), bounds)
+
+
+def sheet_with(sheet, more):
+    """The sheet with more facts, which are good, behind its facts."""
+    bounds = bounds_with(sheet.marks, sheet.facts, sheet.bounds, more)
+    return sheet_made(sheet.marks, sheet.takes, (*sheet.facts, *more), bounds)
 
 
 def check_alike(first, second):
@@ -162,15 +183,23 @@ class Sheet:
         self.marks = tuple(marks)
         self.takes = tuple(takes)
         self.facts = tuple(facts)
+        self._limits = None
         check_parts(self.marks, self.takes, self.facts)
-        self.bounds = bounds_of(self.marks, self.facts)
+        self.bounds = bounds_with(self.marks, (), free_bounds(len(self.marks)), self.facts)
+
+    @property
+    def limits(self):
+        """Limits (see bounds) that make the bounds, none of which follows from the others."""
+        if self._limits is None:
+            self._limits = needed_limits(self.bounds)
+        return self._limits
 
     def spot(self, name):
         """The place of a name in the bounds."""
-        names = names_of(self.marks)
-        if name not in names:
-            raise UnknownName(name)
-        return names.index(name)
+        for spot, known in enumerate(names_of(self.marks)):
+            if known == name:
+                return spot
+        raise UnknownName(name)
 
     def __getitem__(self, at):
         x, y = at
@@ -196,7 +225,9 @@ class Sheet:
 
     def with_fact(self, x, y, c):
         """The sheet with this fact behind its facts."""
-        return Sheet(self.marks, self.takes, (*self.facts, (x, y, c)))
+        if not is_fact((x, y, c), names_of(self.marks)):
+            raise BadFact(len(self.facts))
+        return sheet_with(self, ((x, y, c),))
 
     def without(self, index):
         """The sheet without the fact of this index."""
@@ -208,13 +239,12 @@ class Sheet:
         """The sheet with the facts behind it that the mark is this number."""
         if mark not in self.marks:
             raise UnknownName(mark)
-        known = ((mark, "zero", number), ("zero", mark, -number))
-        return Sheet(self.marks, self.takes, self.facts + known)
+        return sheet_with(self, ((mark, "zero", number), ("zero", mark, -number)))
 
     def __and__(self, other):
         check_alike(self, other)
         more = [fact for fact in other.facts if fact not in self.facts]
-        return Sheet(self.marks, self.takes, (*self.facts, *more))
+        return sheet_with(self, tuple(more)) if more else self
 
     def tight(self):
         """All facts that the sheet's facts show, but those that need no saying."""
