@@ -23,6 +23,81 @@ FAMILIES = """
 """
 
 
+TEXTS = """
+>>> from unknowntakes.programs import Program
+>>> program = Program(("voice",), ("put", "voice>", "A", ("in", 0), ("out", 3)))
+>>> more = program + ("if", ("heard", "A", ("zero", 7)), (("hush", "<voice", 2),), ())
+>>> (str(more), len(more), more - 1 == program, Program.read(str(more)) == more)
+('tracks: voice\\nput voice> A in out+3\\nif heard A 7\\n  hush <voice 2\\nend\\n', 3, True, True)
+"""
+
+PLAYING = """
+>>> from unknowntakes.playing import cue_sheet, standing
+>>> from unknowntakes.programs import Program
+>>> from unknowntakes.sheets import Sheet
+>>> program = Program.read("tracks: voice\\nput voice> A 0 10\\npin p ahead A 3\\npin q behind A 5\\ncut p q\\n")
+>>> sheet = Sheet(("A",), ("A",))
+>>> (program(sheet, (12,)), program(sheet, (9,)), standing(sheet, program, (10,)))
+(('sound', ((('A', 0, 3), ('A', 6, 10)),)), ('wrong', 0, 'late'), \
+('sound', ((('A', 0, 3), ('pin', 'p'), ('pin', 'q'), ('A', 6, 10)),)))
+
+>>> from unknowntakes.playing import cue_sheet
+>>> from unknowntakes.programs import Program
+>>> cue_sheet(Program(("voice",)), ("sound", ((("A", 2, 5), ("", 0, 4)),)))
+'voice:\\n  1 A                     0              2              5\\n  2 hush                  3              0              4\\n'
+"""
+
+FINDINGS = """
+>>> from unknowntakes.findings import ask, times
+>>> from unknowntakes.programs import Program
+>>> from unknowntakes.sheets import Sheet
+>>> sheet = Sheet(("A", "in", "out"), ("A",), (("in", "out", 0), ("out", "A", 0)))
+>>> program = Program(("voice",), ("put", "voice>", "A", ("in", 0), ("out", 3)))
+>>> finding = ask(sheet, program, ("wrong",))
+>>> (finding.state, finding.least_bad, finding.least_good, finding.bad.near((10, 2, 5)))
+('open', (0, 0, 0), (3, 0, 0), (2, (8, 0, 6)))
+
+>>> from unknowntakes.findings import times
+>>> from unknowntakes.programs import Program
+>>> from unknowntakes.sheets import Sheet
+>>> sheet = Sheet(("A", "m"), ("A",), (("m", "A", 0),))
+>>> program = Program.read("tracks: voice\\nput voice> A 0 m\\nput voice> A m-1 A\\n")
+>>> (times(sheet, program, "A", ("zero", 0), ("A", 0)))
+((1, (2, 1), 1), (2, (1, 1), 0))
+"""
+
+SUMS = """
+>>> from unknowntakes.programs import Program
+>>> from unknowntakes.sheets import Sheet
+>>> from unknowntakes.sums import gap
+>>> facts = (("a", "b", 0), ("b", "A", 0), ("c", "A", 0), ("b", "c", 5), ("A", "a", 9))
+>>> sheet = Sheet(("A", "a", "b", "c"), ("A",), facts)
+>>> program = Program.read("tracks: voice\\nput voice> A a b\\nput voice> A c A\\n")
+>>> total = gap(sheet, program, "<voice", "voice>")
+>>> (total.lowest, total.highest, total.highest_at)
+(0, 14, (9, 0, 5, 0))
+
+>>> from unknowntakes.sheets import Sheet
+>>> from unknowntakes.sums import pairs_bound, span
+>>> facts = (("a", "b", 0), ("b", "A", 0), ("c", "A", 0), ("b", "c", 5), ("A", "a", 9))
+>>> sheet = Sheet(("A", "a", "b", "c"), ("A",), facts)
+>>> ends = ((("b", 0), ("A", 0)), (("a", 0), ("c", 0)))
+>>> across = pairs_bound(sheet, ends[0], ends[1], (("A", "a", 1), ("b", "c", 1)))
+>>> (across, pairs_bound(sheet, ends[0], ends[1], (("b", "a", 1), ("A", "c", 1))), span(sheet, ends[0], ends[1])[0])
+(14, 23, 14)
+
+>>> from unknowntakes.programs import Program
+>>> from unknowntakes.sheets import Sheet
+>>> from unknowntakes.sums import lag
+>>> facts = (("in", "out", -1), ("out", "in", 4), ("out", "A", 0), ("out", "B", 0))
+>>> sheet = Sheet(("A", "B", "in", "out"), ("A", "B"), facts)
+>>> program = Program.read("tracks: one, two\\nput one> A 0 A\\nput two> B 0 B\\ndrop A in out\\n")
+>>> late = lag(sheet, program, ("one", "A"), ("two", "B"), ("zero", 0), ("A", 0))
+>>> (late.lowest, late.lowest_at, late.highest, late.highest_at)
+(-4, (5, 5, 0, 4), 0, (2, 2, 1, 2))
+"""
+
+
 class Examples(unittest.TestCase):
     def check(self, text, many):
         test = doctest.DocTestParser().get_doctest(text, {}, self.id(), None, None)
@@ -36,6 +111,18 @@ class Examples(unittest.TestCase):
 
     def test_families(self):
         self.check(FAMILIES, 5)
+
+    def test_texts(self):
+        self.check(TEXTS, 4)
+
+    def test_playing(self):
+        self.check(PLAYING, 9)
+
+    def test_findings(self):
+        self.check(FINDINGS, 13)
+
+    def test_sums(self):
+        self.check(SUMS, 23)
 
     def test_readme(self):
         text = README.read_text(encoding="utf-8")

@@ -6,6 +6,7 @@ import io
 import re
 import tokenize
 import unittest
+from collections import Counter
 from pathlib import Path
 
 PACKAGE = Path(__file__).resolve().parent.parent / "unknowntakes"
@@ -255,7 +256,7 @@ class Code(unittest.TestCase):
         for stem, node in nodes(ast.stmt):
             self.assertIsInstance(node, STATEMENTS, f"{stem}:{node.lineno}")
             if isinstance(node, ast.Expr):
-                self.assertIsInstance(node.value, (ast.Call, ast.Constant), f"{stem}:{node.lineno}")
+                self.assertIsInstance(node.value, (ast.Call, ast.Constant, ast.Yield), f"{stem}:{node.lineno}")
 
     def test_classes_and_decorators(self):
         for stem, node in nodes(ast.ClassDef):
@@ -294,6 +295,21 @@ class Code(unittest.TestCase):
         for stem, node in nodes(ast.Call):
             if isinstance(node.func, ast.Attribute):
                 self.assertNotIn(node.func.attr, stored, f"{stem}:{node.lineno}")
+
+    def test_properties_and_methods_have_unlike_names(self):
+        properties, methods = set(), set()
+        for _, node in nodes(ast.ClassDef):
+            for one in node.body:
+                if isinstance(one, ast.FunctionDef):
+                    plain = not any(isinstance(mark, ast.Name) and mark.id == "property" for mark in one.decorator_list)
+                    (methods if plain else properties).add(one.name)
+        self.assertEqual(properties & methods, set())
+        self.assertEqual(properties & BUILTIN_METHODS, set())
+
+    def test_attributes_are_assigned_through_a_local_name(self):
+        for stem, node in nodes(ast.Attribute):
+            if isinstance(node.ctx, ast.Store):
+                self.assertIsInstance(node.value, ast.Name, f"{stem}:{node.lineno}")
 
     def test_attributes_that_are_read(self):
         known = set(BUILTIN_METHODS)
@@ -335,6 +351,149 @@ class Code(unittest.TestCase):
                 self.assertFalse(any(isinstance(one, (ast.List, ast.Dict)) for one in ast.walk(worth)), stem)
 
 
+    def test_lists_and_dicts_of_a_module_are_only_read(self):
+        for stem, tree in TREES.items():
+            tables = {node.targets[0].id for node in tree.body
+                      if isinstance(node, ast.Assign) and isinstance(node.value, (ast.List, ast.Dict))}
+            for other in TREES.values():
+                for node in other.body:
+                    if isinstance(node, ast.ImportFrom) and node.module == f"unknowntakes.{stem}":
+                        self.check_tables(other, tables & {alias.name for alias in node.names})
+            self.check_tables(tree, tables)
+
+    def check_tables(self, tree, tables):
+        """Each table is only looked up: by an index, by get, behind in."""
+        looked_up = set()
+        for node in ast.walk(tree):
+            if isinstance(node, ast.Subscript):
+                looked_up.add(id(node.value))
+                self.assertFalse(isinstance(node.value, ast.Name) and node.value.id in tables
+                                 and not isinstance(node.ctx, ast.Load))
+            if isinstance(node, ast.Compare):
+                looked_up |= {id(side) for sign, side in zip(node.ops, node.comparators)
+                              if isinstance(sign, (ast.In, ast.NotIn))}
+            if isinstance(node, ast.Call) and isinstance(node.func, ast.Attribute) and node.func.attr == "get":
+                looked_up.add(id(node.func.value))
+        for node in ast.walk(tree):
+            if isinstance(node, ast.Name) and isinstance(node.ctx, ast.Load) and node.id in tables:
+                self.assertIn(id(node), looked_up, f"{node.id}:{node.lineno}")
+
+    def test_generators(self):
+        names = Counter(node.name for _, node in functions())
+        made = [node for _, node in functions() if any(isinstance(one, ast.Yield) for one in ast.walk(node))]
+        for node in made:
+            self.assertEqual(names[node.name], 1, node.name)
+            self.assertEqual(node.decorator_list, [])
+            for one in ast.walk(node):
+                self.assertNotIsInstance(one, (ast.Try, ast.With, ast.YieldFrom))
+        called = {node.func.id for _, node in nodes(ast.Call) if isinstance(node.func, ast.Name)}
+        self.assertEqual(called & {node.name for node in made}, set())
+
+    def test_no_two_lambdas_on_a_line(self):
+        places = [(stem, node.lineno) for stem, node in nodes(ast.Lambda)]
+        self.assertEqual(len(places), len(set(places)))
+
+    def test_lists_are_sorted_by_sorted_alone(self):
+        for stem, node in nodes(ast.Call):
+            if isinstance(node.func, ast.Attribute):
+                self.assertNotEqual(node.func.attr, "sort", stem)
+
+    def test_operators_are_used_by_their_signs(self):
+        for stem, node in nodes(ast.Attribute):
+            self.assertFalse(node.attr.startswith("__") and node.attr != "__init__", f"{stem}:{node.lineno}")
+
+
+class Operators(unittest.TestCase):
+    """L5: what an operator or a property runs changes nothing that it did not create, and calls nothing it is passed."""
+
+    def own(self):
+        """name: the functions, methods and classes' __init__ of that name."""
+        found = {}
+        for stem, node in functions():
+            found.setdefault(node.name, []).append((stem, node))
+        for stem, node in nodes(ast.ClassDef):
+            found.setdefault(node.name, []).extend(
+                (stem, one) for one in node.body if isinstance(one, ast.FunctionDef) and one.name == "__init__")
+        return found
+
+    def called(self, node):
+        for one in ast.walk(node):
+            if isinstance(one, ast.Call) and isinstance(one.func, (ast.Name, ast.Attribute)):
+                yield one.func.id if isinstance(one.func, ast.Name) else one.func.attr
+
+    def reached(self):
+        """All that operators, properties, __eq__, __str__ and __len__ run, the errors' own __init__ aside."""
+        own = self.own()
+        waiting = []
+        for stem, node in nodes(ast.ClassDef):
+            for one in node.body:
+                if isinstance(one, ast.FunctionDef) and stem != "errors":
+                    is_property = any(isinstance(mark, ast.Name) and mark.id == "property" for mark in one.decorator_list)
+                    operator = one.name.startswith("__") and one.name not in ("__init__", "__call__", "__iter__")
+                    if is_property or operator:
+                        waiting.append((stem, one))
+        found = []
+        while waiting:
+            stem, node = waiting.pop()
+            if (stem, node) not in found and stem != "errors":
+                found.append((stem, node))
+                for name in self.called(node):
+                    waiting.extend(own.get(name, []))
+        return found
+
+    def test_much_is_reached(self):
+        names = {node.name for _, node in self.reached()}
+        self.assertLessEqual({"tightened", "left_over", "steps_of", "replaced", "edit_lines", "needed_limits"}, names)
+
+    def test_nothing_that_is_passed_is_called(self):
+        for stem, node in self.reached():
+            for one in ast.walk(node):
+                if isinstance(one, ast.Call) and isinstance(one.func, ast.Name):
+                    self.assertNotIn(one.func.id, bound_names(node), f"{stem}.{node.name}")
+                self.assertNotIsInstance(one, (ast.Yield, ast.Lambda), f"{stem}.{node.name}")
+
+    def test_only_own_lists_and_dicts_are_changed(self):
+        changing = set("append clear extend insert pop remove reverse setdefault update".split())
+        for stem, node in self.reached():
+            made = self.made_in(node)
+            for one in ast.walk(node):
+                place = None
+                if isinstance(one, ast.Call) and isinstance(one.func, ast.Attribute) and one.func.attr in changing:
+                    place = one.func.value
+                if isinstance(one, ast.Subscript) and not isinstance(one.ctx, ast.Load):
+                    place = one.value
+                if place is not None:
+                    self.assertTrue(isinstance(place, ast.Name) and place.id in made, f"{stem}.{node.name}:{one.lineno}")
+
+    def made_in(self, node):
+        """The local variables that are only ever assigned new lists and dicts."""
+        made, other = set(), set(parameters(node))
+        for one in ast.walk(node):
+            if isinstance(one, ast.Assign):
+                for target in one.targets:
+                    if isinstance(target, ast.Name):
+                        fresh = isinstance(one.value, (ast.List, ast.Dict, ast.ListComp, ast.DictComp)) or (
+                            isinstance(one.value, ast.Call) and isinstance(one.value.func, ast.Name)
+                            and one.value.func.id in ("list", "dict", "sorted"))
+                        (made if fresh else other).add(target.id)
+            if isinstance(one, (ast.For, ast.comprehension)):
+                other |= {name.id for name in ast.walk(one.target) if isinstance(name, ast.Name)}
+        return made - other
+
+    def test_attributes_are_assigned_to_new_objects_alone(self):
+        classes = {node.name for _, node in nodes(ast.ClassDef)}
+        for stem, node in self.reached():
+            new = {one.targets[0].id for one in ast.walk(node)
+                   if isinstance(one, ast.Assign) and isinstance(one.targets[0], ast.Name)
+                   and isinstance(one.value, ast.Call) and isinstance(one.value.func, ast.Name)
+                   and one.value.func.id in classes}
+            for one in ast.walk(node):
+                if isinstance(one, ast.Attribute) and isinstance(one.ctx, ast.Store):
+                    kept = one.attr.startswith("_") and node.decorator_list
+                    fresh = node.name == "__init__" and one.value.id == "self" or one.value.id in new
+                    self.assertTrue(kept or fresh, f"{stem}.{node.name}:{one.lineno}")
+
+
 class Texts(unittest.TestCase):
     def test_strings(self):
         quiet = docstrings()
@@ -363,31 +522,55 @@ class Texts(unittest.TestCase):
 
 
 class Interface(unittest.TestCase):
-    LISTED = {
+    CLASSES = {
         "sheets": {"Sheet": """chain with_fact without measured tight within read least __getitem__ __contains__
                    __and__ __eq__ __ne__ __str__ __init__""".split()},
         "families": {"Family": """least hull near within __or__ __and__ __sub__ __contains__ __eq__ __ne__ __bool__
                      __init__""".split()},
+        "programs": {"Program": """swapped with_amount read __call__ __getitem__ __add__ __sub__ __eq__ __ne__ __len__
+                     __str__ __init__""".split()},
+        "findings": {"Finding": "state least_bad least_good __bool__ __init__".split()},
+        "sums": {"Sum": ["__init__"]},
+    }
+    PARAMETERS = {
+        ("sheets", "Sheet", "__init__"): "self marks takes facts", ("sheets", "Sheet", "chain"): "self x y",
+        ("sheets", "Sheet", "with_fact"): "self x y c", ("sheets", "Sheet", "without"): "self index",
+        ("sheets", "Sheet", "measured"): "self mark number", ("sheets", "Sheet", "tight"): "self",
+        ("sheets", "Sheet", "within"): "self other", ("sheets", "Sheet", "read"): "text",
+        ("families", "Family", "__init__"): "self sheets", ("families", "Family", "near"): "self numbers fixed",
+        ("families", "Family", "within"): "self other",
+        ("programs", "Program", "__init__"): "self tracks edits", ("programs", "Program", "swapped"): "self step",
+        ("programs", "Program", "with_amount"): "self step which amount", ("programs", "Program", "read"): "text",
+        ("programs", "Program", "__call__"): "self sheet numbers",
+        ("playing", None, "standing"): "sheet program numbers", ("playing", None, "played"): "sheet program numbers",
+        ("playing", None, "cue_sheet"): "program outcome",
+        ("findings", "Finding", "__init__"): "self bad good", ("findings", None, "shapes"): "sheet program",
+        ("findings", None, "ends"): "sheet program shape", ("findings", None, "ask"): "sheet program faults",
+        ("findings", None, "times"): "sheet program take P Q",
+        ("sums", "Sum", "__init__"): "self lowest highest lowest_at highest_at",
+        ("sums", None, "span"): "sheet plus minus", ("sums", None, "pairs_bound"): "sheet plus minus pairs",
+        ("sums", None, "gap"): "sheet program p q", ("sums", None, "lag"): "sheet program one two P Q",
     }
 
     def test_each_stands_in_its_file_and_class(self):
-        for stem, classes in self.LISTED.items():
+        for stem, classes in self.CLASSES.items():
             found = {node.name: node for node in TREES[stem].body if isinstance(node, ast.ClassDef)}
             for name, methods in classes.items():
                 own = {node.name for node in found[name].body if isinstance(node, ast.FunctionDef)}
                 self.assertLessEqual(set(methods), own)
 
     def test_parameters(self):
-        wanted = {
-            ("sheets", "__init__"): ["self", "marks", "takes", "facts"], ("sheets", "chain"): ["self", "x", "y"],
-            ("sheets", "with_fact"): ["self", "x", "y", "c"], ("sheets", "without"): ["self", "index"],
-            ("sheets", "measured"): ["self", "mark", "number"], ("sheets", "tight"): ["self"],
-            ("sheets", "within"): ["self", "other"], ("sheets", "read"): ["text"],
-            ("families", "__init__"): ["self", "sheets"], ("families", "near"): ["self", "numbers", "fixed"],
-            ("families", "within"): ["self", "other"]}
-        found = {(stem, node.name): parameters(node) for stem, node in functions()}
-        for place, names in wanted.items():
-            self.assertEqual(found[place], names)
+        found = {}
+        for stem, tree in TREES.items():
+            for node in tree.body:
+                if isinstance(node, ast.FunctionDef):
+                    found[stem, None, node.name] = parameters(node)
+                if isinstance(node, ast.ClassDef):
+                    for one in node.body:
+                        if isinstance(one, ast.FunctionDef):
+                            found[stem, node.name, one.name] = parameters(one)
+        for place, names in self.PARAMETERS.items():
+            self.assertEqual(found[place], names.split(), place)
 
 
 if __name__ == "__main__":

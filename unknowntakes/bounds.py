@@ -114,9 +114,11 @@ def is_tied(bounds, x, y):
 
 def is_bridged(bounds, x, y, spots):
     """True if what is known of x - y follows from what is known of both and another spot."""
+    row, most = bounds[x], bounds[x][y]
     for spot in spots:
-        if spot not in (x, y) and bounds[x][spot] is not None and bounds[spot][y] is not None:
-            if bounds[x][spot] + bounds[spot][y] == bounds[x][y]:
+        if spot != x and spot != y and row[spot] is not None:
+            onward = bounds[spot][y]
+            if onward is not None and row[spot] + onward == most:
                 return True
     return False
 
@@ -138,17 +140,32 @@ def head_of(bounds, spot):
     return least[1]
 
 
+def heads_of(bounds):
+    """For each spot the head of those that are tied to it."""
+    spots = range(len(bounds))
+    for x in spots:
+        for y in range(x):
+            if is_tied(bounds, x, y):
+                return [head_of(bounds, spot) for spot in spots]
+    return list(spots)
+
+
 def needed_limits(bounds):
     """Limits that make the bounds, none of which follows from the others."""
-    spots = range(len(bounds))
     # Tied spots bridge one another in a circle, so one of each group stands for all of it.
-    heads = [head_of(bounds, spot) for spot in spots]
-    chosen = [spot for spot in spots if heads[spot] == spot]
-    limits = []
-    for head in chosen:
-        limits.extend(ring_limits(bounds, [spot for spot in spots if heads[spot] == head]))
-    for x in chosen:
-        for y in chosen:
-            if x != y and bounds[x][y] is not None and not is_bridged(bounds, x, y, chosen):
-                limits.append((x, y, bounds[x][y]))
-    return [limit for limit in limits if limit[0] != 0 or limit[2] != 0]
+    heads = heads_of(bounds)
+    chosen = [spot for spot, head in enumerate(heads) if spot == head]
+    rings = []
+    if len(chosen) < len(heads):
+        groups = [[spot for spot, other in enumerate(heads) if other == head] for head in chosen]
+        rings = [limit for group in groups for limit in ring_limits(bounds, group)]
+    others = [
+        (x, y, bounds[x][y]) for x in chosen for y in chosen
+        if x != y and bounds[x][y] is not None and not is_bridged(bounds, x, y, chosen)]
+    return [limit for limit in [*rings, *others] if limit[0] != 0 or limit[2] != 0]
+
+
+def with_free_spot(bounds):
+    """The bounds with one more spot about which nothing is known, which may be below 0, too."""
+    last = tuple([*[None for _ in bounds], 0])
+    return (*[(*row, None) for row in bounds], last)

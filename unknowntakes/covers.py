@@ -99,9 +99,18 @@ def widened(whole, piece, blocks):
     return wide
 
 
+def left_over_one(whole, blocks):
+    """What is left of the whole without at most one block: for each limit of it what breaks this one."""
+    if not blocks:
+        return [whole]
+    return [tightened(whole, y, x, -number - 1) for x, y, number in open_limits(whole, blocks[0])]
+
+
 def left_over(whole, blocks):
     """Pieces that together have the recordings of the whole that are in none of the blocks."""
     touching = [block for block in blocks if not is_apart(whole, block)]
+    if len(touching) < 2:
+        return left_over_one(whole, touching)
     found = []
     waiting = [(whole, touching)]
     while waiting:

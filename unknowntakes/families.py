@@ -4,7 +4,7 @@ from unknowntakes.bounds import hull_bounds
 from unknowntakes.covers import common_pieces, is_covered, is_within_one, slim, without_blocks
 from unknowntakes.errors import BadNumbers, UnknownName
 from unknowntakes.nearest import distance_to, least_near
-from unknowntakes.sheets import Sheet, check_alike, sheet_of, tight_facts
+from unknowntakes.sheets import check_alike, sheet_made, sheet_of, tight_facts
 
 
 def check_together(first, second):
@@ -101,9 +101,9 @@ class Family:
         """The least sheet that has all recordings, None if there is none."""
         if not self.parts:
             return None
-        model = self.parts[0]
-        facts = tight_facts(model.marks, hull_of(pieces_of(self)))
-        return Sheet(model.marks, model.takes, tuple(facts))
+        model, bounds = self.parts[0], hull_of(pieces_of(self))
+        facts = tight_facts(model.marks, bounds)
+        return sheet_made(model.marks, model.takes, tuple(facts), bounds)
 
     def near(self, numbers, *, fixed=()):
         """(distance, the least recording at it): how near the recordings come to the numbers."""
