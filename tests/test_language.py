@@ -76,6 +76,8 @@ def bound_names(function):
     for node in ast.walk(function):
         if isinstance(node, ast.Name) and isinstance(node.ctx, ast.Store):
             names.add(node.id)
+        if isinstance(node, ast.arg):
+            names.add(node.arg)
         if isinstance(node, ast.FunctionDef) and node is not function:
             names.add(node.name)
     return names

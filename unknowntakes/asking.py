@@ -2,7 +2,7 @@
 
 from unknowntakes.clocks import Clock, point_bounds
 from unknowntakes.edits import parts_of
-from unknowntakes.errors import BadPlace, NotRecording, UnknownName
+from unknowntakes.errors import BadPlace, NotRecording, UnknownName, UnlikeTracks
 from unknowntakes.kinds import is_place
 from unknowntakes.sheets import names_of, spots_of
 from unknowntakes.steps import Score
@@ -22,6 +22,12 @@ def score_of(sheet, program):
     """The program as it is played at recordings of the sheet; UnknownName if it can't be."""
     check_names(sheet, program)
     return Score(program, spots_of(sheet.marks))
+
+
+def check_tracks_alike(first, second):
+    """UnlikeTracks if two programs do not have the same tracks in the same order."""
+    if first.tracks != second.tracks:
+        raise UnlikeTracks()
 
 
 def is_place_of(sheet, x):

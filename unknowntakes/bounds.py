@@ -96,6 +96,12 @@ def least_numbers(bounds):
     return tuple([-number for number in bounds[0][1:]])
 
 
+def least_order(bounds):
+    """What bounds are ordered by: their least recording, by its sum, then as a tuple."""
+    least = least_numbers(bounds)
+    return (sum(least), least)
+
+
 def fits(bounds, numbers):
     """True if the numbers, one for each mark, are a recording."""
     clock = (0,) + numbers

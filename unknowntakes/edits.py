@@ -73,10 +73,8 @@ def is_edit(edit, tracks):
 
 def parts_of(edit):
     """(sort, part) for each part of an edit in reading order, those of its test too, its insides aside."""
-    if edit[0] == "if":
-        test = edit[1]
-        return list(zip(TESTS[test[0]], test[1:]))
-    return list(zip(FORMS[edit[0]], edit[1:]))
+    row, sorts = row_with_places(edit)
+    return list(zip(sorts, row[1:]))
 
 
 def steps_of(edits, tracks):
@@ -161,8 +159,8 @@ def replaced(edits, step, many, new):
     return edits
 
 
-def with_amount_in(row, sorts, which, amount):
-    """The row of a word and its parts, of these sorts, with this amount in a place: 1 is the first one.
+def place_at(sorts, which):
+    """Where a place stands in a row of a word and parts of these sorts: 1 is the first one.
 
     None if there are not that many places.
     """
@@ -171,5 +169,27 @@ def with_amount_in(row, sorts, which, amount):
         if sort == "place":
             left = left - 1
             if left == 0:
-                return (*row[:at], (row[at][0], amount), *row[at + 1:])
+                return at
     return None
+
+
+def row_with_places(edit):
+    """(row, sorts): the word and parts of an edit, those of the test of an if, and what they are."""
+    if edit[0] == "if":
+        return edit[1], TESTS[edit[1][0]]
+    return edit, FORMS[edit[0]]
+
+
+def place_in_edit(edit, which):
+    """The first (1) or second (2) place of an edit, None if it has no such place."""
+    row, sorts = row_with_places(edit)
+    at = place_at(sorts, which)
+    return None if at is None else row[at]
+
+
+def with_place(edit, which, place):
+    """The edit with another place for one that it has, an if with another test."""
+    row, sorts = row_with_places(edit)
+    at = place_at(sorts, which)
+    new = (*row[:at], place, *row[at + 1:])
+    return ("if", new, *edit[2:]) if edit[0] == "if" else new

@@ -6,7 +6,7 @@ from unknowntakes.clocks import ZERO, ways
 from unknowntakes.errors import NoShape, UnknownName
 from unknowntakes.faults import check_faults, faults_on, is_bad, pieces_of_take
 from unknowntakes.pieces import is_in
-from unknowntakes.plays import played_tree, sounds_of
+from unknowntakes.plays import leaves_of, played_tree, sounds_of
 from unknowntakes.sounds import ends_of, shape_of, track_runs
 from unknowntakes.steps import place_on
 from unknowntakes.verdicts import family_with, parted
@@ -55,8 +55,8 @@ def sounds_told(clock, outcome):
 
 def leaves_told(sheet, program):
     """(bounds, shape, for each track its runs) for bounds that are together all recordings of the sheet."""
-    branches = played_tree(score_of(sheet, program), sheet.bounds, sounds_told)
-    return [(branch.bounds, *branch.result) for branch in branches if branch.yes is None]
+    branches = played_tree((score_of(sheet, program),), sheet.bounds, sounds_told)
+    return [(bounds, shape, tracks) for bounds, (shape, tracks) in leaves_of(branches)]
 
 
 def shapes(sheet, program):
@@ -117,6 +117,6 @@ def ask(sheet, program, *faults):
     score = score_of(sheet, program)
     check_faults(sheet, program, faults)
     rows = faults_on(faults, score.spots)
-    branches = played_tree(score, sheet.bounds, lambda clock, outcome: is_bad(clock, score, outcome, rows))
+    branches = played_tree((score,), sheet.bounds, lambda clock, outcome: is_bad(clock, score, outcome, rows))
     bad, good = parted(branches)
     return Finding(family_with(sheet, bad), family_with(sheet, good))

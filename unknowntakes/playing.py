@@ -1,7 +1,7 @@
 """Programs played at one recording: rows with pins, step by step, and cue sheets."""
 
 from unknowntakes.asking import clock_at, score_of
-from unknowntakes.plays import first_outcome, outcome_of, play
+from unknowntakes.plays import begun, outcome_of, play
 from unknowntakes.sounds import rows_at
 from unknowntakes.steps import step_done
 
@@ -19,9 +19,7 @@ def steps_played(sheet, program, numbers):
     score = score_of(sheet, program)
     clock = clock_at(sheet, numbers)
     told = []
-    rows = score.start()
-    outcome = first_outcome(score)
-    step = 0
+    step, rows, outcome = begun(score)
     while outcome is None:
         end, onward, rows = step_done(clock, score, step, rows)
         told.append((step, rows_at(clock, rows) if end is None else end))

@@ -1,7 +1,7 @@
 """Programs: edits of tracks, which never change once they are made."""
 
 from unknowntakes.asking import clock_at, score_of
-from unknowntakes.edits import FORMS, TESTS, replaced, row_of, steps_of, turns_of, with_amount_in
+from unknowntakes.edits import place_in_edit, replaced, row_of, steps_of, turns_of, with_place
 from unknowntakes.errors import BadPlace, BadStep, BadTracks
 from unknowntakes.kinds import first_bad_name, is_whole
 from unknowntakes.plays import play
@@ -22,12 +22,13 @@ def check_step(program, step):
         raise BadStep(step)
 
 
-def edit_with_amount(edit, which, amount):
-    """The edit with this amount in one of its places, an if in one of its test's; None if it has no such place."""
-    if edit[0] != "if":
-        return with_amount_in(edit, FORMS[edit[0]], which, amount)
-    test = with_amount_in(edit[1], TESTS[edit[1][0]], which, amount)
-    return None if test is None else ("if", test, edit[2], edit[3])
+def place_of_step(program, step, which):
+    """The first (1) or second (2) place of a step; BadStep, BadPlace if there is none."""
+    check_step(program, step)
+    place = place_in_edit(program.steps[step], which)
+    if place is None:
+        raise BadPlace(which)
+    return place
 
 
 class Program:
@@ -69,11 +70,8 @@ class Program:
 
     def with_amount(self, step, which, amount):
         """The program with another amount in the first (1) or second (2) place of this step."""
-        check_step(self, step)
-        edit = edit_with_amount(self.steps[step], which, amount)
-        if edit is None:
-            raise BadPlace(which)
-        edits = replaced(self.edits, step, 1, (edit,))
+        mark, _ = place_of_step(self, step, which)
+        edits = replaced(self.edits, step, 1, (with_place(self.steps[step], which, (mark, amount)),))
         return Program(self.tracks, *edits)
 
     def __call__(self, sheet, numbers):

@@ -95,3 +95,16 @@ def ends_of(leaves):
         ends = [[wider_ends(old, run_ends(bounds, run)) for old, run in zip(row, runs)]
                 for row, runs in zip(ends, tracks)]
     return tuple([tuple(row) for row in ends])
+
+
+def run_in_places(clock, run):
+    """A run with one spot place for its from and one for its to."""
+    return run if run[0] == "" else (run[0], clock.greatest_of(run[1]), clock.least_of(run[2]))
+
+
+def outcome_in_places(clock, outcome):
+    """An outcome with runs in spot places for its rows, in tuples."""
+    if outcome[0] != "sound":
+        return outcome
+    tracks = track_runs(clock, outcome)
+    return ("sound", tuple([tuple([run_in_places(clock, run) for run in runs]) for runs in tracks]))

@@ -38,7 +38,7 @@ class Score:
         self.steps = [edit_on(edit, spots) for edit in program.steps]
         self.turns = program.turns
 
-    def start(self):
+    def blank_rows(self):
         """The rows of the tracks when nothing stands on them."""
         return tuple([() for _ in self.tracks])
 

@@ -15,20 +15,24 @@ def plain_results(branches):
     return results
 
 
-def parted(branches):
-    """(bounds with the result True, bounds with False): as few branches as have all of them."""
+def plain_leaves(branches):
+    """(bounds, result) of as few branches as have all leaves."""
     results = plain_results(branches)
-    bad, good = [], []
+    found = []
     waiting = [0]
     while waiting:
         at = waiting.pop()
         if results[at] is None:
             waiting.extend([branches[at].no, branches[at].yes])
-        elif results[at]:
-            bad.append(branches[at].bounds)
         else:
-            good.append(branches[at].bounds)
-    return bad, good
+            found.append((branches[at].bounds, results[at]))
+    return found
+
+
+def parted(branches):
+    """(bounds with the result True, bounds with False): as few branches as have all of them."""
+    leaves = plain_leaves(branches)
+    return [bounds for bounds, bad in leaves if bad], [bounds for bounds, bad in leaves if not bad]
 
 
 def family_with(sheet, pieces):
