@@ -7,7 +7,7 @@ from unknowntakes.errors import TakesError
 
 
 class Case(unittest.TestCase):
-    def fails(self, kind, call, *args, **fields):
+    def fails(self, kind, call, /, *args, **fields):
         """The call raises exactly this kind with these fields."""
         with self.assertRaises(TakesError, msg=repr(args)) as caught:
             call(*args)

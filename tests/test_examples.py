@@ -98,6 +98,77 @@ SUMS = """
 """
 
 
+COMPARED = """
+>>> from unknowntakes.compared import compare, hangs, told
+>>> from unknowntakes.programs import Program
+>>> from unknowntakes.sheets import Sheet
+>>> first = Program.read("tracks: voice\\nput voice> A 0 in\\nput voice> A out A\\n")
+>>> second = Program.read("tracks: voice\\nput voice> A 0 A\\ndrop A in out\\n")
+>>> loose = Sheet(("A", "in", "out"), ("A",), (("in", "A", 0), ("out", "A", 0)))
+>>> sheet = loose.with_fact("in", "out", 0)
+>>> (compare(sheet, first, second, further=True).state, compare(loose, first, second).least_bad)
+('sure', (1, 1, 0))
+
+>>> from unknowntakes.compared import compare
+>>> from unknowntakes.programs import Program
+>>> from unknowntakes.sheets import Sheet
+>>> sheet = Sheet(("A",), ("A",), (("zero", "A", -9),))
+>>> first = Program.read("tracks: voice\\nput voice> A 0 9\\npin p ahead A 3\\npin q ahead A 3\\n")
+>>> second = first + ("nudge", "p", 1) + ("nudge", "p", -1)
+>>> (compare(sheet, first, second).state, compare(sheet, first, second, further=True).state)
+('sure', 'never')
+
+>>> from unknowntakes.compared import hangs, told
+>>> from unknowntakes.programs import Program
+>>> from unknowntakes.sheets import Sheet
+>>> sheet = Sheet(("A", "m"), ("A",), (("m", "A", 0),))
+>>> program = Program.read("tracks: voice\\nput voice> A 0 m\\nput voice> A m A\\n")
+>>> (hangs(sheet, program, "m"), told(sheet, program, "m"), told(sheet, program, "A"))
+(None, ((1, 0), (1, 1)), None)
+"""
+
+MENDS = """
+>>> from unknowntakes.findings import ask
+>>> from unknowntakes.mends import fewest, gentle, loosest, safe_amounts, settles
+>>> from unknowntakes.programs import Program
+>>> from unknowntakes.sheets import Sheet
+>>> sheet = Sheet(("A", "in", "out"), ("A",), (("in", "out", 0), ("out", "A", 0)))
+>>> program = Program(("voice",), ("put", "voice>", "A", ("in", 0), ("out", 3)))
+>>> finding = ask(sheet, program, ("wrong",))
+>>> (loosest(finding, "A", "out"), gentle(finding), settles(finding, "A"), fewest(finding))
+(('fact', 3, (2, 0, 0), (3, 0, 0)), ('facts', [('out', 'A', -3)]), ((3, 0, 1), (3, 0, 0)), ('A', 'out'))
+
+>>> from unknowntakes.mends import safe_amounts
+>>> from unknowntakes.programs import Program
+>>> from unknowntakes.sheets import Sheet
+>>> sheet = Sheet(("A", "in", "out"), ("A",), (("in", "out", 0), ("out", "A", -2)))
+>>> program = Program(("voice",), ("put", "voice>", "A", ("in", 0), ("out", 9)))
+>>> safe_amounts(sheet, program, 0, 2, ("wrong",))
+[(0, 2)]
+"""
+
+TREES = """
+>>> from unknowntakes.programs import Program
+>>> from unknowntakes.sheets import Sheet
+>>> from unknowntakes.trees import follow, is_outcome_tree
+>>> sheet = Sheet(("A",), ("A",))
+>>> program = Program(("voice",), ("put", "voice>", "A", ("zero", 1), ("zero", 3)))
+>>> sound = ("sound", ((("A", ("zero", 1), ("zero", 3)),),))
+>>> tree = [("ask", "zero", "A", -3, 1, 2), sound, ("wrong", 0, "late")]
+>>> (is_outcome_tree(sheet, program, tree), follow(sheet, tree, (2,)))
+(True, ('wrong', 0, 'late'))
+"""
+
+TABLES = """
+>>> from unknowntakes.tables import Table
+>>> table = Table("voice")
+>>> first = [table.take("A"), table.mark("m"), table.edit(("put", "voice>", "A", ("m", 0), ("m", 5)))]
+>>> first.append(table.watch("late", ("wrong",)))
+>>> (first, table.know("m", "A", -5), table.state_of("late"), table.undo(), table.state_of("late"))
+([[], [], [], []], ['late'], 'sure', ['late'], 'open')
+"""
+
+
 class Examples(unittest.TestCase):
     def check(self, text, many):
         test = doctest.DocTestParser().get_doctest(text, {}, self.id(), None, None)
@@ -123,6 +194,18 @@ class Examples(unittest.TestCase):
 
     def test_sums(self):
         self.check(SUMS, 23)
+
+    def test_compared(self):
+        self.check(COMPARED, 21)
+
+    def test_mends(self):
+        self.check(MENDS, 14)
+
+    def test_trees(self):
+        self.check(TREES, 8)
+
+    def test_tables(self):
+        self.check(TABLES, 5)
 
     def test_readme(self):
         text = README.read_text(encoding="utf-8")

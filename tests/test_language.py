@@ -400,6 +400,95 @@ class Code(unittest.TestCase):
             if isinstance(node.func, ast.Attribute):
                 self.assertNotEqual(node.func.attr, "sort", stem)
 
+    def test_super_is_called_directly_in_a_method(self):
+        found = 0
+        for stem, node in nodes(ast.ClassDef):
+            for method in node.body:
+                plain = [one for one in ast.walk(method) if isinstance(one, ast.Name) and one.id == "super"]
+                nested = [one for inner in ast.walk(method) if isinstance(inner, (ast.Lambda, ast.ListComp, ast.DictComp))
+                          or isinstance(inner, ast.FunctionDef) and inner is not method
+                          for one in ast.walk(inner) if isinstance(one, ast.Name) and one.id == "super"]
+                self.assertEqual(nested, [], f"{stem}.{node.name}")
+                calls = [one for one in ast.walk(method) if isinstance(one, ast.Call)
+                         and isinstance(one.func, ast.Attribute) and isinstance(one.func.value, ast.Call)
+                         and isinstance(one.func.value.func, ast.Name) and one.func.value.func.id == "super"]
+                self.assertEqual(len(calls), len(plain))
+                for one in calls:
+                    self.assertEqual((one.func.value.args, one.func.value.keywords), ([], []))
+                    self.assertTrue(one.func.attr == "__init__" == method.name or not one.func.attr.startswith("__"))
+                    self.assertFalse(any(isinstance(name, ast.Name) and isinstance(name.ctx, ast.Store)
+                                         and name.id == method.args.args[0].arg for name in ast.walk(method)))
+                found += len(calls)
+        self.assertEqual(sum(isinstance(node, ast.Name) and node.id == "super" for _, node in nodes(ast.Name)), found)
+
+    def methods(self):
+        """{name: the decorators of the methods of this name}, but for double-underscore ones."""
+        found = {}
+        for _, node in nodes(ast.ClassDef):
+            for one in node.body:
+                if isinstance(one, ast.FunctionDef) and not one.name.startswith("__"):
+                    found.setdefault(one.name, []).extend(mark.id for mark in one.decorator_list)
+        return found
+
+    def test_methods_that_are_read_without_a_call(self):
+        called = {id(node.func) for _, node in nodes(ast.Call)}
+        classes = {node.name for _, node in nodes(ast.ClassDef)}
+        methods = self.methods()
+        for stem, node in nodes(ast.Attribute):
+            if id(node) not in called and node.attr in methods and "property" not in methods[node.attr]:
+                self.assertIsInstance(node.value, ast.Name, f"{stem}:{node.lineno}")
+                self.assertNotIn(node.value.id, classes)
+                self.assertEqual(methods[node.attr], [])
+                self.assertNotIn(node.attr, BUILTIN_METHODS)
+
+    def test_no_method_is_read_off_a_class_but_static_ones(self):
+        classes = {node.name for _, node in nodes(ast.ClassDef)}
+        for stem, node in nodes(ast.Attribute):
+            if isinstance(node.value, ast.Name) and node.value.id in classes:
+                self.assertEqual(self.methods()[node.attr][:1], ["staticmethod"], f"{stem}:{node.lineno}")
+
+    def test_no_attribute_is_stored_by_the_name_of_a_property(self):
+        properties = {name for name, marks in self.methods().items() if "property" in marks}
+        self.assertLessEqual({"sheet", "program", "branch", "branches", "least", "hull", "state"}, properties)
+        for stem, node in nodes(ast.Attribute):
+            if not isinstance(node.ctx, ast.Load):
+                self.assertNotIn(node.attr, properties, f"{stem}:{node.lineno}")
+        for stem, node in functions():
+            if node.name in properties:
+                self.assertEqual([mark.id for mark in node.decorator_list], ["property"])
+
+    def test_stars_in_calls_stand_before_names_and_attributes_of_names(self):
+        properties = {name for name, marks in self.methods().items() if "property" in marks}
+        for stem, node in nodes(ast.Call):
+            starred = [one.value for one in node.args if isinstance(one, ast.Starred)]
+            for one in starred:
+                self.assertTrue(isinstance(one, ast.Name) or isinstance(one, ast.Attribute)
+                                and isinstance(one.value, ast.Name) and one.attr not in properties, f"{stem}:{node.lineno}")
+            self.assertFalse(any(keyword.arg is None for keyword in node.keywords), stem)
+            self.assertFalse(starred and node.keywords, f"{stem}:{node.lineno}")
+
+    def test_what_is_called(self):
+        for stem, node in nodes(ast.Call):
+            self.assertIsInstance(node.func, (ast.Name, ast.Attribute), f"{stem}:{node.lineno}")
+
+    def test_kept_ranges_and_views(self):
+        kinds = ("zip", "enumerate", "reversed", "range")
+        for stem, node in functions():
+            kept = {}
+            for one in ast.walk(node):
+                if isinstance(one, ast.Assign) and isinstance(one.value, ast.Call):
+                    call = one.value.func
+                    if isinstance(call, ast.Name) and call.id in kinds or isinstance(call, ast.Attribute) and call.attr in (
+                            "items", "keys", "values"):
+                        kept[one.targets[0].id] = call.id
+            for one in ast.walk(node):
+                if isinstance(one, ast.Call):
+                    for arg in one.args:
+                        if isinstance(arg, ast.Name) and arg.id in kept:
+                            self.assertIn(one.func.id, ("list", "tuple", "sorted", "sum", "min", "max", "any", "all", "len"))
+                if isinstance(one, ast.Return) and isinstance(one.value, ast.Name):
+                    self.assertNotIn(one.value.id, kept)
+
     def test_operators_are_used_by_their_signs(self):
         for stem, node in nodes(ast.Attribute):
             self.assertFalse(node.attr.startswith("__") and node.attr != "__init__", f"{stem}:{node.lineno}")
@@ -533,6 +622,8 @@ class Interface(unittest.TestCase):
                      __str__ __init__""".split()},
         "findings": {"Finding": "state least_bad least_good __bool__ __init__".split()},
         "sums": {"Sum": ["__init__"]},
+        "tables": {"Table": """take mark know measure edit start go watch state_of branch_program differ sound story undo
+                   twin sheet program branch branches __init__""".split(), "StrictTable": ["edit", "twin"]},
     }
     PARAMETERS = {
         ("sheets", "Sheet", "__init__"): "self marks takes facts", ("sheets", "Sheet", "chain"): "self x y",
@@ -552,6 +643,27 @@ class Interface(unittest.TestCase):
         ("sums", "Sum", "__init__"): "self lowest highest lowest_at highest_at",
         ("sums", None, "span"): "sheet plus minus", ("sums", None, "pairs_bound"): "sheet plus minus pairs",
         ("sums", None, "gap"): "sheet program p q", ("sums", None, "lag"): "sheet program one two P Q",
+        ("compared", None, "compare"): "sheet first second further",
+        ("compared", None, "telling_edit"): "sheet first second numbers",
+        ("compared", None, "clash"): "sheet base first second", ("compared", None, "thin"): "sheet program",
+        ("compared", None, "hangs"): "sheet program mark further", ("compared", None, "told"): "sheet program mark",
+        ("compared", None, "sounding"): "sheet program tracks",
+        ("mends", None, "loosest"): "finding x y", ("mends", None, "needed"): "sheet program faults",
+        ("mends", None, "gentle"): "finding", ("mends", None, "with_asks"): "program facts",
+        ("mends", None, "safe_amounts"): "sheet program step which faults",
+        ("mends", None, "settles"): "finding marks", ("mends", None, "fewest"): "finding",
+        ("trees", None, "follow"): "sheet tree numbers", ("trees", None, "outcome_tree"): "sheet program",
+        ("trees", None, "verdict_tree"): "sheet program faults",
+        ("trees", None, "is_outcome_tree"): "sheet program tree",
+        ("trees", None, "is_verdict_tree"): "sheet program tree faults",
+        ("tables", None, "retell"): "table story", ("tables", None, "tried"): "table story",
+        ("tables", "Table", "__init__"): "self tracks", ("tables", "Table", "take"): "self name",
+        ("tables", "Table", "mark"): "self name", ("tables", "Table", "know"): "self x y c",
+        ("tables", "Table", "measure"): "self mark number", ("tables", "Table", "edit"): "self edit",
+        ("tables", "StrictTable", "edit"): "self edit", ("tables", "Table", "start"): "self name",
+        ("tables", "Table", "go"): "self name", ("tables", "Table", "watch"): "self name faults",
+        ("tables", "Table", "state_of"): "self name", ("tables", "Table", "branch_program"): "self name",
+        ("tables", "Table", "differ"): "self one two further",
     }
 
     def test_each_stands_in_its_file_and_class(self):

@@ -1,12 +1,7 @@
 """Whether rows (see pieces) have the same moments, hush and pins one behind the other."""
 
 from unknowntakes.kinds import is_whole
-from unknowntakes.pieces import has_many, hush_of, joins, piece_of
-
-
-def without_pins(row):
-    """The items of a row without its pins."""
-    return [item for item in row if item[0] is not None]
+from unknowntakes.pieces import has_many, hush_of, joins, piece_of, without_pins
 
 
 def unlike_middles(items, others):
@@ -90,8 +85,11 @@ def is_same(clock, items, others):
 def are_rows_alike(clock, rows, others, further):
     """True if all rows have the same moments and hush, further: and pins."""
     for row, other in zip(rows, others):
-        items, behind = (row, other) if further else (without_pins(row), without_pins(other))
-        if not is_same(clock, items, behind):
+        if further:
+            is_so = is_same(clock, row, other)
+        else:
+            is_so = is_same(clock, without_pins(clock.bounds, row), without_pins(clock.bounds, other))
+        if not is_so:
             return False
     return True
 

@@ -4,7 +4,7 @@ from unknowntakes.asking import is_place_of
 from unknowntakes.clocks import ZERO
 from unknowntakes.errors import BadFault
 from unknowntakes.kinds import is_whole
-from unknowntakes.pieces import has_many, is_in, piece_of, runs_of, with_high, with_low
+from unknowntakes.pieces import has_many, is_in, piece_of, runs_of, with_high, with_low, without_pins
 from unknowntakes.steps import row_on
 
 # What the parts behind the word of a fault are; ("wrong",) stands for all steps.
@@ -56,9 +56,9 @@ def faults_on(faults, spots):
     return [row_on(fault, FAULTS[fault[0]], spots) for fault in faults]
 
 
-def pieces_of_take(rows, take):
-    """The pieces of a take on all tracks."""
-    return [item for row in rows for item in row if item[0] == take]
+def pieces_of_take(bounds, rows, take):
+    """The pieces of a take on all tracks, what only pins kept apart in one piece."""
+    return [item for row in rows for item in without_pins(bounds, row) if item[0] == take]
 
 
 def common_piece(bounds, one, two):
@@ -76,7 +76,7 @@ def in_range(clock, score, rows, fault):
     _, take, start, end = fault
     whole = (take, (start, ZERO), (end, (score.spots[take], 0)))
     found = []
-    for piece in pieces_of_take(rows, take):
+    for piece in pieces_of_take(clock.bounds, rows, take):
         found.extend(common_piece(clock.bounds, whole, piece))
     return found
 
@@ -95,7 +95,7 @@ def is_twice(clock, score, rows, fault):
 def is_missing(clock, score, rows, fault):
     """True if a moment in range is heard nowhere."""
     _, take, start, end = fault
-    pieces = pieces_of_take(rows, take)
+    pieces = pieces_of_take(clock.bounds, rows, take)
     place = clock.greatest_of((start, ZERO))
     goal = clock.least_of((end, (score.spots[take], 0)))
     while clock.is_less(place, goal):
@@ -125,7 +125,8 @@ def is_heard_in_range(clock, score, rows, fault):
 def is_disordered(clock, score, rows, fault):
     """True if a moment stands behind one of the same take that is not less."""
     _, track, take = fault
-    pieces = pieces_of_take([row for name, row in zip(score.tracks, rows) if name == track], take)
+    here = [row for name, row in zip(score.tracks, rows) if name == track]
+    pieces = pieces_of_take(clock.bounds, here, take)
     for at, piece in enumerate(pieces):
         for ahead in pieces[:at]:
             # The first moment of the piece is not above the last one of the piece ahead.

@@ -85,7 +85,7 @@ def times_at(bounds, rows, take, lows, highs):
     ranged = narrowed(wide, limits)
     if ranged is None:
         return []
-    pieces = pieces_of_take(rows, take)
+    pieces = pieces_of_take(bounds, rows, take)
     return ways(ranged, lambda clock: len([piece for piece in pieces if is_in(clock, piece, (spot, 0))]))
 
 

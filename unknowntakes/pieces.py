@@ -117,17 +117,43 @@ def joins(clock, highs, lows):
     return False
 
 
+def goes_on(bounds, piece, other):
+    """True if the other piece is known to begin just where this one ends, even if one of them is empty."""
+    if piece[0] != other[0] or len(other[1]) != 1 or piece[2] != other[1]:
+        return False
+    place = other[1][0]
+    for low in piece[1]:
+        if not is_most_known(bounds, low, place):
+            return False
+    for high in other[2]:
+        if not is_most_known(bounds, place, high):
+            return False
+    return True
+
+
+def without_pins(bounds, items):
+    """The items without pins; what only pins kept apart is one piece."""
+    left = []
+    for item in items:
+        if item[0] is not None:
+            if left and item[0] != "" and goes_on(bounds, left[-1], item):
+                left[-1] = (item[0], left[-1][1], item[2])
+            else:
+                left.append(item)
+    return left
+
+
 def runs_of(clock, items):
     """The runs of items, pins aside, each like a piece or hush that is not empty."""
     runs = []
-    for item in items:
+    for item in without_pins(clock.bounds, items):
         last = runs[-1] if runs else (None,)
         if item[0] == "":
             if last[0] == "":
                 runs[-1] = ("", 0, last[2] + item[2])
             else:
                 runs.append(item)
-        elif item[0] is not None and has_many(clock, item, 1):
+        elif has_many(clock, item, 1):
             if last[0] == item[0] and joins(clock, last[2], item[1]):
                 runs[-1] = (item[0], last[1], item[2])
             else:

@@ -104,5 +104,6 @@ def with_watch(scene, name, faults):
     if name in scene.watched:
         raise NameTaken(name)
     check_faults(scene.ground, scene.draft(), faults)
-    state = states_of(scene.ground, scene.draft(), {name: faults})
-    return Scene(scene.ground, scene.drafts, scene.present, {**scene.watched, name: faults}, {**scene.states, **state})
+    told = states_of(scene.ground, scene.draft(), {name: faults})
+    states = {**scene.states, name: told[name]}
+    return Scene(scene.ground, scene.drafts, scene.present, {**scene.watched, name: faults}, states)

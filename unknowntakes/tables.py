@@ -112,10 +112,10 @@ class Table:
 
     def sound(self):
         """The outcome of the present program if all marks are known; None if they are not."""
-        ground, draft = self._now.ground, self._now.draft()
+        ground, program = self._now.ground, self._now.draft()
         if not all([is_tied(ground.bounds, 0, spot) for spot in range(len(ground.bounds))]):
             return None
-        return draft(ground, ground.least)
+        return program(ground, ground.least)
 
     def story(self):
         """The deeds done."""
@@ -132,7 +132,8 @@ class Table:
 
     def twin(self):
         """Another table with the same story, which goes on alone."""
-        return copied_to(self, Table(*self._now.draft().tracks))
+        tracks = self._now.draft().tracks
+        return copied_to(self, Table(*tracks))
 
 
 def check_never_wrong(sheet, program):
@@ -154,7 +155,8 @@ class StrictTable(Table):
 
     def twin(self):
         """Another strict table with the same story, which goes on alone."""
-        return copied_to(self, StrictTable(*self._now.draft().tracks))
+        tracks = self._now.draft().tracks
+        return copied_to(self, StrictTable(*tracks))
 
 
 def is_deed(deed):
