@@ -343,6 +343,13 @@ class Told(Case):
         self.assertEqual(told(sheet, program, "m"), ((9, 0, 0), (9, 1, 0)))
         self.assertEqual(told(sheet, program, "A"), None)
 
+    def test_the_mark_may_be_told_in_each_part_but_not_by_all(self):
+        # Up to n the run ends at m+2, else at n, and then m is n+2: what is heard never is the same for other reasons.
+        sheet = Sheet(("A", "m", "n"), ("A",))
+        program = read("if most m n", "  put v> A 0 m+2", "else", "  ask m n+2", "  ask n+2 m", "  put v> A 0 n", "end")
+        self.assertEqual(told(sheet, program, "m"), ((2, 0, 0), (2, 4, 2)))
+        self.assertEqual(told(sheet, program, "n"), ((2, 0, 0), (2, 0, 1)))
+
     def test_the_least_pair_with_the_lesser_number_first(self):
         sheet = Sheet(("A", "m"), ("A",), (("zero", "m", -4),))
         self.assertEqual(told(sheet, read("hush v> 1"), "m"), ((0, 4), (0, 5)))
@@ -389,6 +396,7 @@ class Sounding(Case):
         for tracks in ((), ((), ()), (None,), (7, 8), ("A",), ([run, ("", 0, 2)],), ((run, ["", 0, 2]),), ((run, ()),),
                        ((("A", 3), ("", 0, 2)),), ((("A", "3", 8), ("", 0, 2)),), ((("A", True, 8), ("", 0, 2)),),
                        ((run, ("", False, 2)),), ((run, ("", 0, True)),), ((run, ("", 0, None)),), ((run, ("", 2, 0)),),
+                       ((run, ("", 1, 2)),), ((run, ("", -1, 2)),), ((run, ("", 0, -2)),),
                        (((None, "p"), run),), (((None, 3, 8), ("", 0, 2)),), (((("A",), 3, 8), ("", 0, 2)),),
                        ((("A", ("m", 0), ("A", 0)), ("", 0, 2)),), ((run, ("", 0, 2)), ()), ((("A", 3, None), run),)):
             family = sounding(SHEET, self.PROGRAM, tracks)

@@ -160,7 +160,7 @@ class OutcomeTrees(Case):
         for row in ((), (1,), (None, 2), ("sound",), sound(runs, ()), ("sound", (runs,), 1), ("sound", runs), ("sound", [runs]),
                     sound(list(runs)), sound(([*runs[0]], runs[1])), sound((("A", 0, ("m", 0)), runs[1])),
                     sound((runs[0], ("", 0, True))), sound((runs[0], ("", ("zero", 0), ("zero", 2)))),
-                    sound((runs[0], ("", False, 2))), sound((("A", ("zero", False), ("m", 0)), runs[1])),
+                    sound((runs[0], ("", 1, 2))), sound((runs[0], ("", 0, 0))), sound((runs[0], ("", False, 2))), sound((("A", ("zero", False), ("m", 0)), runs[1])),
                     sound((("A", ("zero", 0), ("m", "0")), runs[1])), sound((("A", ("zero", 0), ("x", 0)), runs[1])),
                     sound((("A", ("zero", 0), ("m", 0), 1), runs[1])), sound((("A", ("zero", 0)), runs[1])),
                     sound((("A", ["zero", 0], ("m", 0)), runs[1])), sound((("A", None, ("m", 0)), runs[1])),
@@ -198,7 +198,8 @@ class OutcomeTrees(Case):
                             (("none", list(ring)), False), (("none", (*ring, *ring)), True), (("none", (ring[0],) * 2), False),
                             (("none", ring, 1), False), (("none", ()), False), (("none", (("m", "A", 3), ring[1])), False),
                             (("none", (("m", "A"), ring[1])), False), (("none", (None, ring[1])), False),
-                            (("none", (("m", "A", 4), ["A", "m", -5])), False), (("none", 7), False)):
+                            (("none", (("m", "A", 4), ["A", "m", -5])), False), (("none", 7), False),
+                            (("None", ring), False), (("good", ring), False), (("sound", ring), False), ((None, ring), False)):
             tree = [("ask", "m", "A", 4, 1, 2), hush, leaf]
             self.assertIs(self.is_right(tree, read("hush v> 1")), right, leaf)
             verdict = [tree[0], GOOD, GOOD if leaf == hush else leaf]
@@ -217,8 +218,12 @@ class OutcomeTrees(Case):
         deep[6] = deep[5]
         self.assertFalse(self.is_right(deep, read("hush v> 1")))
 
-    def test_a_ring_where_there_are_recordings_is_none(self):
+    def test_what_has_recordings_is_no_none(self):
         self.assertFalse(self.is_right([("none", (("m", "A", 4), ("A", "m", -5)))], read("hush v> 1")))
+        # The facts of this ring add up to 0, and there are recordings that keep them.
+        tree = [("ask", "A", "m", -4, 1, 2), ("none", (("m", "A", 4), ("A", "m", -4))), sound((("", 0, 1),))]
+        self.assertFalse(self.is_right(tree, read("hush v> 1")))
+        self.assertFalse(is_verdict_tree(SHEET, read("hush v> 1"), [*tree[:2], GOOD], ("wrong",)))
 
     def test_bad_rows_are_looked_at_first(self):
         self.fails(BadTree, is_outcome_tree, SHEET, self.PROGRAM, [*self.TREE, ("x",)], index=7)
