@@ -239,7 +239,8 @@ class Findings(unittest.TestCase):
             if ask(sheet, program, fault):
                 left = needed(sheet, program, fault)
                 self.assertTrue(ask(Sheet(sheet.marks, sheet.takes, left), program, fault))
-                self.assertEqual([fact for fact in sheet.facts if fact in left], left)
+                ahead = iter(sheet.facts)
+                self.assertTrue(all(fact in ahead for fact in left))
                 many += len(left) > 0
         self.assertGreater(many, 3)
 
@@ -284,6 +285,7 @@ class Tables(unittest.TestCase):
 
     def test_tables_and_the_functions_they_stand_for(self):
         for rng, draw, sheet, first, second, rows in large_draws(211, 30):
+            second = second if second.edits else Program(second.tracks, draw.edit("hush"))
             table = self.table(Table, sheet, first)
             self.assertTrue(table.sheet == sheet and table.program == first)
             fault = drawn_fault(rng, draw, first, rng.choice(KINDS))
