@@ -36,10 +36,14 @@ def are_apart_at(pieces, others, spots):
     return True
 
 
+def least_sum(pair):
+    """The first part of (the sum of the least recording, the bounds)."""
+    return pair[0]
+
+
 def by_least(pieces):
     """(the sum of the least recording, the bounds), the least sum first."""
-    sums = [(sum(least_numbers(piece)), piece) for piece in pieces]
-    return sorted(sums, key=lambda pair: pair[0])
+    return sorted([(sum(least_numbers(piece)), piece) for piece in pieces], key=least_sum)
 
 
 def least_pair_of(piece, other, spots):

@@ -38,13 +38,18 @@ def voice_of(bounds, spot, outcome):
     return (sum(least_numbers(bounds)), bounds, ends, ties_of(bounds, spot, ends))
 
 
+def least_sum(voice):
+    """The sum of the least recording of a voice."""
+    return voice[0]
+
+
 def voices_of(score, bounds, spot):
     """{shape: its voices, those with the least recordings first}."""
     voices = {}
     for part, outcome in plain_leaves(played_tree((score,), bounds, outcome_in_places)):
         if outcome[0] == "sound":
             voices.setdefault(shape_of(outcome[1]), []).append(voice_of(part, spot, outcome))
-    return {shape: sorted(voices[shape], key=lambda voice: voice[0]) for shape in voices}
+    return {shape: sorted(voices[shape], key=least_sum) for shape in voices}
 
 
 def may_be_equal(bounds, place, others, other):
