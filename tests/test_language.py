@@ -6,7 +6,7 @@ import io
 import re
 import tokenize
 import unittest
-from collections import Counter
+from collections import Counter, deque
 from pathlib import Path
 
 PACKAGE = Path(__file__).resolve().parent.parent / "unknowntakes"
@@ -93,6 +93,41 @@ def module_names(tree):
         elif isinstance(node, ast.Assign):
             names += [target.id for target in node.targets]
     return names
+
+
+def builtin_parts():
+    """All that values of Python's own have, methods or not, but for double-underscore names."""
+    kinds = [one for one in vars(builtins).values() if isinstance(one, type)]
+    worths = [{}.keys(), {}.values(), {}.items(), (one for one in ()), builtin_parts, len, deque()]
+    return {name for one in [*kinds, *worths] for name in dir(one) if not name.startswith("__")}
+
+
+def methods_in(trees):
+    """{name: the decorators of the methods of this name}, but for double-underscore ones."""
+    found = {}
+    for tree in trees.values():
+        for node in ast.walk(tree):
+            if isinstance(node, ast.ClassDef):
+                for one in node.body:
+                    if isinstance(one, ast.FunctionDef) and not one.name.startswith("__"):
+                        found.setdefault(one.name, []).extend(mark.id for mark in one.decorator_list)
+    return found
+
+
+def handed_on(trees):
+    """(file, attribute) wherever a method of the trees' classes, no property, is read without a call."""
+    plain = {name for name, marks in methods_in(trees).items() if "property" not in marks}
+    for stem, tree in trees.items():
+        called = {id(node.func) for node in ast.walk(tree) if isinstance(node, ast.Call)}
+        for node in ast.walk(tree):
+            if isinstance(node, ast.Attribute) and node.attr in plain and id(node) not in called:
+                yield stem, node
+
+
+def handed_on_with_a_builtin_name(trees):
+    """L25: "file:row name" wherever a method is handed on although a value of Python's own has that name."""
+    taken = builtin_parts()
+    return [f"{stem}:{node.lineno} {node.attr}" for stem, node in handed_on(trees) if node.attr in taken]
 
 
 def docstrings():
@@ -421,34 +456,42 @@ class Code(unittest.TestCase):
                 found += len(calls)
         self.assertEqual(sum(isinstance(node, ast.Name) and node.id == "super" for _, node in nodes(ast.Name)), found)
 
-    def methods(self):
-        """{name: the decorators of the methods of this name}, but for double-underscore ones."""
-        found = {}
-        for _, node in nodes(ast.ClassDef):
-            for one in node.body:
-                if isinstance(one, ast.FunctionDef) and not one.name.startswith("__"):
-                    found.setdefault(one.name, []).extend(mark.id for mark in one.decorator_list)
-        return found
-
     def test_methods_that_are_read_without_a_call(self):
-        called = {id(node.func) for _, node in nodes(ast.Call)}
         classes = {node.name for _, node in nodes(ast.ClassDef)}
-        methods = self.methods()
-        for stem, node in nodes(ast.Attribute):
-            if id(node) not in called and node.attr in methods and "property" not in methods[node.attr]:
-                self.assertIsInstance(node.value, ast.Name, f"{stem}:{node.lineno}")
-                self.assertNotIn(node.value.id, classes)
-                self.assertEqual(methods[node.attr], [])
-                self.assertNotIn(node.attr, BUILTIN_METHODS)
+        methods = methods_in(TREES)
+        for stem, node in handed_on(TREES):
+            self.assertIsInstance(node.value, ast.Name, f"{stem}:{node.lineno}")
+            self.assertNotIn(node.value.id, classes)
+            self.assertEqual(methods[node.attr], [])
+        self.assertEqual(handed_on_with_a_builtin_name(TREES), [])
+
+    def test_what_values_of_pythons_own_have(self):
+        for worth in (range(3), "a", 1, True, [1], {1: 2}, {1}, frozenset(), (1,), b"a", None, slice(1)):
+            self.assertLessEqual({name for name in dir(worth) if not name.startswith("__")}, builtin_parts())
+        self.assertLessEqual({"start", "stop", "step", "count", "index", "copy", "real", "keys", "add"}, builtin_parts())
+        self.assertEqual(builtin_parts() & {"take", "mark", "know", "measure", "edit", "go", "watch"}, set())
+
+    def test_methods_with_a_name_of_a_builtin_value_are_found_where_they_are_handed_on(self):
+        handing = ("act = {'a': box.low, 'b': box.NAME}", "acts = [box.NAME]", "acts = (box.low, box.NAME)",
+                   "act = box.NAME", "box.held = box.NAME", "return box.NAME", "return used(box.NAME)",
+                   "return sorted(rows, key=box.NAME)", "return box.NAME == box.low", "return box.inner.NAME")
+        others = ("return box.NAME(1)", "return box.NAME(*rows)", "return used(box.NAME(1), box.low)",
+                  "act = {'a': box.low}", "NAME = 1")
+        for name in "start stop step count index copy real items add upper decode bit_length".split():
+            made = f"class Box:\n    def {name}(self, n):\n        return n\n\n    def low(self, n):\n        return n\n"
+            for row in handing + others:
+                use = f"def told(box):\n    {row}\n".replace("NAME", name)
+                found = handed_on_with_a_builtin_name({"boxes": ast.parse(made), "uses": ast.parse(use)})
+                self.assertEqual(found, [f"uses:2 {name}"] if row in handing else [], use)
 
     def test_no_method_is_read_off_a_class_but_static_ones(self):
         classes = {node.name for _, node in nodes(ast.ClassDef)}
         for stem, node in nodes(ast.Attribute):
             if isinstance(node.value, ast.Name) and node.value.id in classes:
-                self.assertEqual(self.methods()[node.attr][:1], ["staticmethod"], f"{stem}:{node.lineno}")
+                self.assertEqual(methods_in(TREES)[node.attr][:1], ["staticmethod"], f"{stem}:{node.lineno}")
 
     def test_no_attribute_is_stored_by_the_name_of_a_property(self):
-        properties = {name for name, marks in self.methods().items() if "property" in marks}
+        properties = {name for name, marks in methods_in(TREES).items() if "property" in marks}
         self.assertLessEqual({"sheet", "program", "branch", "branches", "least", "hull", "state"}, properties)
         for stem, node in nodes(ast.Attribute):
             if not isinstance(node.ctx, ast.Load):
@@ -458,7 +501,7 @@ class Code(unittest.TestCase):
                 self.assertEqual([mark.id for mark in node.decorator_list], ["property"])
 
     def test_stars_in_calls_stand_before_names_and_attributes_of_names(self):
-        properties = {name for name, marks in self.methods().items() if "property" in marks}
+        properties = {name for name, marks in methods_in(TREES).items() if "property" in marks}
         for stem, node in nodes(ast.Call):
             starred = [one.value for one in node.args if isinstance(one, ast.Starred)]
             for one in starred:

@@ -341,6 +341,33 @@ class Retold(Case):
         self.assertEqual((table.branches, table.sheet.facts), (("main",), ()))
         self.assertEqual(tried(table, []), [])
 
+    def test_branches_that_a_story_starts(self):
+        for kind in (Table, StrictTable):
+            table = kind("v")
+            told(table, [*STORY[:2], ("watch", "ends", (("declined",),))])
+            story = [("start", "b"), ("edit", ("ask", ("m", 0), ("A", 0))), ("start", ""), ("go", "main"), ("start", "c")]
+            # Behind the ask some recordings are declined; main has no ask.
+            self.assertEqual(tried(table, story), [[], ["ends"], [], ["ends"], []])
+            self.assertEqual((table.branch, table.branches, len(table.story())), ("main", ("main",), 3))
+            self.assertIsNone(retell(table, story[:3]))
+            self.assertEqual((table.branch, table.branches), ("", ("main", "b", "")))
+            self.assertEqual([len(table.branch_program(name)) for name in table.branches], [0, 1, 1])
+            self.assertEqual(table.story()[3:], story[:3])
+            self.assertEqual((table.undo(), table.branch, table.branches), ([], "b", ("main", "b")))
+
+    def test_branches_that_a_story_can_not_start(self):
+        for kind in (Table, StrictTable):
+            table = kind("v")
+            for name in ("main", "b"):
+                self.fails(NameTaken, tried, table, [("start", "b"), ("start", name), ("take", "A")], name=name)
+                self.assertEqual((table.branches, table.story()), (("main",), []))
+            self.fails(NameTaken, retell, table, [("start", "b"), ("start", "main"), ("take", "A")], name="main")
+            self.assertEqual((table.branch, table.branches, table.story()), ("b", ("main", "b"), [("start", "b")]))
+            for bent in (("start",), ("start", "c", "d"), ("Start", "c"), ("start ", "c"), ("stop", "c"), ("step", "c")):
+                self.fails(BadDeed, retell, table, [bent], index=0)
+                self.fails(BadDeed, tried, table, [("start", "c"), bent], index=1)
+            self.assertEqual(table.branches, ("main", "b"))
+
     def test_tried_with_an_error(self):
         table = twin_at(4)
         for story, kind in (([("know", "m", "A", 0), ("go", "x")], NoBranch), ([("mark", "n"), ("mark", "n")], BadMarks),

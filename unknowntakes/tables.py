@@ -171,8 +171,11 @@ def did(table, deed):
     if word == "watch":
         name, faults = parts
         return table.watch(name, *faults)
+    if word == "start":
+        # A range has a start, too; a method of such a name is not handed on.
+        return table.start(*parts)
     deeds = {"take": table.take, "mark": table.mark, "know": table.know, "measure": table.measure,
-             "edit": table.edit, "start": table.start, "go": table.go}
+             "edit": table.edit, "go": table.go}
     act = deeds[word]
     return act(*parts)
 
